@@ -1,0 +1,42 @@
+"""The examples of the document, as they stand there."""
+
+import doctest
+import unittest
+
+INTRODUCTION = """
+>>> from switchyard.readings import readings
+>>> from switchyard.tables import Operand, Option, Table
+>>> some = Option("add", "a", ("some", ("any",), 1, None), 0, 1)
+>>> table = Table([some], [Operand("file", ("any",), 0, 1)], None, ("mixed",))
+>>> [(one.options["add"], one.operands["file"]) for one in readings(table, ["-a", "x", "y"])]
+[((('x',),), ('y',)), ((('x', 'y'),), ())]
+"""
+
+READINGS = """
+>>> from switchyard.readings import readings
+>>> from switchyard.tables import Option, Table
+>>> table = Table([Option("verbose", "v", ("nothing",), 0, 2), Option("level", "l", ("maybe", ("number", 0, 9)))])
+>>> [one.options for one in readings(table, ["-vl3", "--verbose"])]
+[{'level': (('3',),), 'verbose': ((), ())}]
+>>> readings(table, ["-vvv"]), len(readings(table, ["--level", "3"]))
+([], 0)
+"""
+
+
+class Examples(unittest.TestCase):
+    def check(self, text):
+        example = doctest.DocTestParser().get_doctest(text, {}, "example", None, 0)
+        told = []
+        found = doctest.DocTestRunner(verbose=False).run(example, out=told.append)
+        self.assertGreater(found.attempted, 1)
+        self.assertEqual(found.failed, 0, "".join(told))
+
+    def test_introduction(self):
+        self.check(INTRODUCTION)
+
+    def test_readings(self):
+        self.check(READINGS)
+
+
+if __name__ == "__main__":
+    unittest.main()
