@@ -29,7 +29,7 @@ def is_name(value):
 
 
 def are_names(names):
-    """Whether a tuple holds 1 to 8 different names."""
+    """Whether a row holds 1 to 8 different names and nothing else."""
     if len(names) < 1 or len(names) > 8 or not all([is_name(name) for name in names]):
         return False
     return len(set(names)) == len(names)

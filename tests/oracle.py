@@ -276,3 +276,47 @@ class Oracle:
             else:
                 parts[-1].append(mark)
         return tuple(self.stopped(part) for part in parts)
+
+    def words_ways(self, place, word):
+        """All ways to read one word: pairs of the places on the way and the tapes' marks."""
+        found = [((place,), ())]
+        for sign in [*word, ""]:
+            found = [((*places, behind), marks + told) for places, marks in found
+                     for behind, told in self.moves(places[-1], sign)]
+        return found
+
+    def rank(self, places, marks, word):
+        """The least one of all ways to read a word is the reader's, by the order of [11]."""
+        before, behind = places[0], places[-1]
+        what = places[1][6][0] if word else ""
+        names = tuple(tape for tape, mark in marks if mark == CAME)
+        length = sum(mark not in (CAME, STOP) for _, mark in marks)
+        if names:
+            text = word[2:].partition("=")[0]
+            order = 4 if not word.startswith("--") else 2 if (text,) == names else 3
+            return (order, 0, names, -length)
+        if what == "dash":
+            return (1, 0, names, 0)
+        tape = marks[-1][0]
+        if tape == "":
+            return (8, 0, names, 0)
+        option = self.table.option(tape)
+        if option is not None:
+            must = option.takes[0] == "one" or before[4][1] < option.takes[2]
+            return (0 if must else 5, 0, names, 0)
+        return (6 if behind[1] == before[1] else 7, behind[1], names, 0)
+
+    def read(self, words):
+        """The key to which the reader of [11] comes, or the number at which it stops."""
+        place, tapes = FIRST, {}
+        for number, word in enumerate(words):
+            ways = [(self.rank(*way, word), way) for way in self.words_ways(place, word)]
+            if not ways:
+                return number
+            ranks = [rank for rank, _ in ways]
+            assert len(set(ranks)) == len(ranks), (words, ranks)
+            places, marks = min(ways)[1]
+            place = places[-1]
+            for tape, mark in marks:
+                tapes[tape] = tapes.get(tape, ()) + (mark,)
+        return self.key(place, tapes) if self.is_end(place) else len(words)

@@ -22,6 +22,33 @@ READINGS = """
 ([], 0)
 """
 
+READER = """
+>>> from switchyard.reader import read
+>>> from switchyard.readings import readings
+>>> from switchyard.tables import Operand, Option, Table
+>>> table = Table([], [Operand("few", ("any",), 0, 2), Operand("last", ("any",))])
+>>> read(table, ["a", "b"]) == readings(table, ["a", "b"])[0], len(readings(table, ["a", "b"])), read(table, ["a", "b"]).number
+(False, 1, 2)
+"""
+
+HELP = """
+>>> from switchyard.helptexts import help_text
+>>> from switchyard.tables import Operand, Option, Table
+>>> force, add = Option("force", "f", ("nothing",), 0, 1), Option("add", "", ("some", ("any",), 1, None))
+>>> table = Table([force, add], [Operand("file", ("chosen", "a", "b"), 1, None)], None, (), [("needs", "add", "force")])
+>>> print(help_text(table, "cp", 40), end="")
+usage: cp [--force] [--add value...]...
+  file...
+  -f, --force           nothing, at most
+                        1 times
+      --add value...    any at least 1
+                        words, any
+                        number of times
+  file                  chosen a,b, at
+                        least 1 words
+  --add needs --force
+"""
+
 
 class Examples(unittest.TestCase):
     def check(self, text):
@@ -36,6 +63,12 @@ class Examples(unittest.TestCase):
 
     def test_readings(self):
         self.check(READINGS)
+
+    def test_reader(self):
+        self.check(READER)
+
+    def test_help(self):
+        self.check(HELP)
 
 
 if __name__ == "__main__":
