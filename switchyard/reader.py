@@ -19,20 +19,26 @@ class Refused:
 
 
 def read(table, words):
-    """The reading to which the reader comes, or where it stops.
+    """The reading to which the reader comes, or where it stops."""
+    row = checked_words(words)
+    ways = Ways(table)
+    number, place, told = walked(ways, row)
+    if number < len(row) or not ways.may_end(place):
+        return Refused(number)
+    return told_reading(table, told)
+
+
+def walked(ways, row):
+    """How many words the reader reads, its place behind them, and the marks that they leave.
 
     Steps come in the order in which the reader tries them, so it always takes the first one.
     """
-    row = checked_words(words)
-    ways = Ways(table)
     place = FIRST
     told = []
     for number, word in enumerate(row):
         steps = ways.steps(place, word)
         if len(steps) == 0:
-            return Refused(number)
+            return number, place, told
         place, marks = steps[0]
         told.extend(marks)
-    if not ways.may_end(place):
-        return Refused(len(row))
-    return told_reading(table, told)
+    return len(row), place, told

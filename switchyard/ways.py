@@ -39,7 +39,7 @@ class Ways:
 
     def steps(self, place, word):
         """All steps by a word, in the order in which a reader that never goes back tries them."""
-        if self._has_to_go_on(place):
+        if self.has_to_go_on(place):
             return self._value_steps(place, word)
         path, group, words, over, _, counts = place
         free = (path, group, words, over, (), counts)
@@ -56,14 +56,14 @@ class Ways:
     def may_end(self, place):
         """Whether a list may end at a place."""
         path, group, words, _, _, counts = place
-        if self._has_to_go_on(place) or not self._are_served(path, group, words):
+        if self.has_to_go_on(place) or not self.are_served(path, group, words):
             return False
         if path == "" and len(self.table.commands) > 0 and "alone" not in self.table.traits:
             return False
         came = dict(counts)
         return all([_is_content(part, came) for part in tables_on_the_way(self.table, path)])
 
-    def _has_to_go_on(self, place):
+    def has_to_go_on(self, place):
         """Whether an option must have a further word."""
         _, _, _, _, pending, _ = place
         if pending == ():
@@ -72,7 +72,7 @@ class Ways:
         takes = self.options[name].takes
         return takes[0] == "one" or had < takes[2]
 
-    def _are_served(self, path, group, words):
+    def are_served(self, path, group, words):
         """Whether the operands from the group in turn on have their few."""
         had = words
         for operand in self.tables[path].operands[group:]:
@@ -81,17 +81,17 @@ class Ways:
             had = 0
         return True
 
-    def _may_stand(self, place, kind, word):
+    def may_stand(self, place, kind, word):
         """Whether a word can be a value or an operand of a type, dash words looked at."""
         path, _, _, over, _, _ = place
         if not is_of(kind, word):
             return False
-        if over > 0 or kind[0] == "number" or not _is_dash_word(word):
+        if over > 0 or kind[0] == "number" or not is_dash_word(word):
             return True
         traits = self.tables[path].traits
         return "dashed" in traits and not ("ends" in traits and word == "--")
 
-    def _counted(self, counts, name):
+    def counted(self, counts, name):
         """The counts when an option has come once more; None if it cannot."""
         came = dict(counts)
         before = came.get(name, 0)
@@ -101,17 +101,28 @@ class Ways:
             came[name] = before + 1
         return tuple(sorted(came.items()))
 
+    def meant(self, path, text):
+        """The ascending names of the known options that a text behind two dashes means."""
+        names = sorted([option.name for option in self.known[path]])
+        if text in names:
+            return [text]
+        begun = [name for name in names if text != "" and name.startswith(text)]
+        traits = self.tables[path].traits
+        if "guessed" in traits or ("abbreviated" in traits and len(begun) == 1):
+            return begun
+        return []
+
     def _value_steps(self, place, word):
         path, group, words, over, pending, counts = place
         if pending == ():
             return []
         name, had = pending
         takes = self.options[name].takes
-        if not self._may_stand(place, takes[1], word):
+        if not self.may_stand(place, takes[1], word):
             return []
         later = ()
         if takes[0] == "some" and had + 1 != takes[3]:
-            later = (name, _raised(had, takes[2], takes[3]))
+            later = (name, raised(had, takes[2], takes[3]))
         return [((path, group, words, over, later, counts), (("value", name, word),))]
 
     def _end_steps(self, place, word):
@@ -126,29 +137,18 @@ class Ways:
             return []
         text, sign, value = word[2:].partition("=")
         steps = []
-        for name in self._meant(path, text):
+        for name in self.meant(path, text):
             takes = self.options[name].takes
-            later = self._counted(counts, name)
+            later = self.counted(counts, name)
             if later is None:
                 continue
             came = ("came", name, "")
             if sign == "":
-                pending = _waiting(name, takes)
+                pending = waiting(name, takes)
                 steps.append(((path, group, words, over, pending, later), (came,)))
             elif _can_be_attached(takes, value):
                 steps.append(((path, group, words, over, (), later), (came, ("value", name, value))))
         return steps
-
-    def _meant(self, path, text):
-        """The ascending names of the known options that a text behind two dashes means."""
-        names = sorted([option.name for option in self.known[path]])
-        if text in names:
-            return [text]
-        begun = [name for name in names if text != "" and name.startswith(text)]
-        traits = self.tables[path].traits
-        if "guessed" in traits or ("abbreviated" in traits and len(begun) == 1):
-            return begun
-        return []
 
     def _letter_steps(self, place, word):
         """The ways with fewer options come first, as each one's options begin the next one's."""
@@ -161,13 +161,13 @@ class Ways:
         for at in range(1, len(word)):
             name = names.get(word[at], None)
             if name is not None:
-                counts = self._counted(counts, name)
+                counts = self.counted(counts, name)
             if name is None or counts is None:
                 return steps
             takes = self.options[name].takes
             marks.append(("came", name, ""))
             if at + 1 == len(word):
-                pending = _waiting(name, takes)
+                pending = waiting(name, takes)
                 steps.append(((path, group, words, over, pending, counts), tuple(marks)))
             elif _can_be_attached(takes, word[at + 1:]):
                 attached = ("value", name, word[at + 1:])
@@ -186,9 +186,9 @@ class Ways:
         had = words
         for number in range(group, len(operands)):
             operand = operands[number]
-            if had != operand.many and self._may_stand(place, operand.kind, word):
-                raised = _raised(had, operand.few, operand.many)
-                steps.append(((path, number, raised, later, (), counts), (("word", operand.name, word),)))
+            if had != operand.many and self.may_stand(place, operand.kind, word):
+                marks = (("word", operand.name, word),)
+                steps.append(((path, number, raised(had, operand.few, operand.many), later, (), counts), marks))
             if had < operand.few:
                 return steps
             had = 0
@@ -196,7 +196,7 @@ class Ways:
 
     def _command_steps(self, place, word):
         path, group, words, over, _, counts = place
-        if path != "" or word not in self.table.commands or not self._are_served(path, group, words):
+        if path != "" or word not in self.table.commands or not self.are_served(path, group, words):
             return []
         later = 0
         if over == 2:
@@ -211,6 +211,36 @@ def tables_on_the_way(table, path):
     return [table, table.commands[path]]
 
 
+def raised(had, few, many):
+    """One more than what was had, if that still matters."""
+    if many is None:
+        return min(had + 1, few)
+    return min(had + 1, many)
+
+
+def waiting(name, takes):
+    """What is pending behind an option that came without a value in its word."""
+    if takes[0] == "one" or takes[0] == "some":
+        return (name, 0)
+    return ()
+
+
+def is_dash_word(word):
+    """Whether a word begins with a dash and has more signs."""
+    return len(word) > 1 and word.startswith("-")
+
+
+def holds(condition, came):
+    """Whether a condition holds, by how often the options came."""
+    if condition[0] == "some":
+        return any([came.get(name, 0) > 0 for name in condition[1]])
+    one = came.get(condition[1], 0) > 0
+    other = came.get(condition[2], 0) > 0
+    if condition[0] == "needs":
+        return other or not one
+    return not (one and other)
+
+
 def _limit(table, option):
     """Up to which number it matters how often an option came."""
     if option.high is not None:
@@ -221,26 +251,8 @@ def _limit(table, option):
     return option.low
 
 
-def _raised(had, few, many):
-    """One more than what was had, if that still matters."""
-    if many is None:
-        return min(had + 1, few)
-    return min(had + 1, many)
-
-
-def _waiting(name, takes):
-    """What is pending behind an option that came without a value in its word."""
-    if takes[0] == "one" or takes[0] == "some":
-        return (name, 0)
-    return ()
-
-
 def _can_be_attached(takes, value):
     return (takes[0] == "one" or takes[0] == "maybe") and is_of(takes[1], value)
-
-
-def _is_dash_word(word):
-    return len(word) > 1 and word.startswith("-")
 
 
 def _is_content(table, came):
@@ -248,14 +260,4 @@ def _is_content(table, came):
     for option in table.options:
         if came.get(option.name, 0) < option.low:
             return False
-    return all([_holds(condition, came) for condition in table.conditions])
-
-
-def _holds(condition, came):
-    if condition[0] == "some":
-        return any([came.get(name, 0) > 0 for name in condition[1]])
-    one = came.get(condition[1], 0) > 0
-    other = came.get(condition[2], 0) > 0
-    if condition[0] == "needs":
-        return other or not one
-    return not (one and other)
+    return all([holds(condition, came) for condition in table.conditions])

@@ -2,7 +2,7 @@
 
 import unittest
 
-from switchyard import errors
+from switchyard import errors, judgeerrors
 
 ARGUMENTS = {
     "BadPart": ("part",),
@@ -52,6 +52,17 @@ class Errors(unittest.TestCase):
                 if other != name and len(ARGUMENTS[other]) == len(arguments):
                     self.assertFalse(made(*values) == getattr(errors, other)(*values), (name, other))
             self.assertFalse(made(*values) == values[0], name)
+
+    def test_the_errors_of_what_is_decided(self):
+        for made, argument in [(judgeerrors.NotClear, "twice"), (judgeerrors.BadName, "name")]:
+            self.assertEqual(made.__bases__, (errors.SwitchError,))
+            self.assertEqual(made.__module__, "switchyard.judgeerrors")
+            self.assertEqual(getattr(made("some"), argument), "some")
+            self.assertEqual(getattr(made(**{argument: "some"}), argument), "some")
+            self.assertTrue(made("some") == made("some"))
+            self.assertFalse(made("some") == made("other"))
+            self.assertFalse(made("some") == errors.BadPart("some"))
+        self.assertFalse(judgeerrors.NotClear("some") == judgeerrors.BadName("some"))
 
 
 if __name__ == "__main__":

@@ -49,6 +49,20 @@ usage: cp [--force] [--add value...]...
   --add needs --force
 """
 
+LINES = r"""
+>>> from switchyard.lines import shortest_line, split_line, write_line
+>>> split_line("cp -- a\\ b 'it''s' \"\""), write_line(["a b", ""]), shortest_line(["a b", "a b c"])
+(['cp', '--', 'a b', 'its', ''], "'a b' ''", 'a\\ b "a b "c')
+"""
+
+REASONS = """
+>>> from switchyard.reasons import reasons
+>>> from switchyard.tables import Operand, Option, Table
+>>> table = Table([Option("level", "l", ("one", ("number", 0, 9)), 1, 1)], [Operand("file", ("any",))])
+>>> reasons(table, ["-l10", "x"]), reasons(table, ["--lev", "x"]), reasons(table, ["x"])
+((('value', 'level'), ('dash', 'file')), (('unknown', 'lev'), ('dash', 'file')), (('low', 'level'),))
+"""
+
 
 class Examples(unittest.TestCase):
     def check(self, text):
@@ -69,6 +83,12 @@ class Examples(unittest.TestCase):
 
     def test_help(self):
         self.check(HELP)
+
+    def test_lines(self):
+        self.check(LINES)
+
+    def test_reasons(self):
+        self.check(REASONS)
 
 
 if __name__ == "__main__":
