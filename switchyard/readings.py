@@ -33,8 +33,13 @@ def readings(table, words):
     row = checked_words(words)
     if len(row) > MOST_WORDS:
         raise TooLarge(len(row))
+    return all_readings(table, row)
+
+
+def all_readings(table, row):
+    """As `readings`, for lists of any number of words."""
     told = {}
-    for marks in _tellings(_live_layers(Ways(table), row)):
+    for marks in _tellings(live_layers(Ways(table), row)):
         reading = told_reading(table, marks)
         told[reading.key()] = reading
     return [told[key] for key in sorted(told)]
@@ -64,7 +69,7 @@ def told_reading(table, marks):
     return Reading(options, operands, command)
 
 
-def _live_layers(ways, row):
+def live_layers(ways, row):
     """For each word the places ahead of it, with the steps by it that some end of the list follows.
 
     What leads nowhere is left out before anything is told, as it may tell very much.

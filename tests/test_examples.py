@@ -3,6 +3,9 @@
 import doctest
 import unittest
 
+from switchyard.clear import judge_clear
+from switchyard.tables import Operand, Option, Table
+
 INTRODUCTION = """
 >>> from switchyard.readings import readings
 >>> from switchyard.tables import Operand, Option, Table
@@ -63,6 +66,21 @@ REASONS = """
 ((('value', 'level'), ('dash', 'file')), (('unknown', 'lev'), ('dash', 'file')), (('low', 'level'),))
 """
 
+JUDGES = """
+>>> from switchyard.clear import judge_clear
+>>> from switchyard.greed import judge_greedy
+>>> from switchyard.parting import judge_extends
+>>> from switchyard.tables import Operand, Option, Table
+>>> color = Option("color", "c", ("some", ("any",), 0, 1))
+>>> told = judge_clear(Table([color], [Operand("file", ("any",), 0, 1)]))
+>>> told.words, told.one.options, told.other.options
+(('-c', ''), {'color': ((),)}, {'color': (('',),)})
+>>> old = Table([Option("verify", "", ("nothing",))], [], {}, ["abbreviated"])
+>>> new = Table([Option("verify", "", ("nothing",)), Option("version", "", ("nothing",))], [], {}, ["abbreviated"])
+>>> judge_extends(old, new).words
+('--v',)
+"""
+
 
 class Examples(unittest.TestCase):
     def check(self, text):
@@ -89,6 +107,17 @@ class Examples(unittest.TestCase):
 
     def test_reasons(self):
         self.check(REASONS)
+
+    def test_judges(self):
+        self.check(JUDGES)
+
+    def test_the_table_of_the_introduction_is_not_clear(self):
+        some = Option("add", "a", ("some", ("any",), 1, None), 0, 1)
+        table = Table([some], [Operand("file", ("any",), 0, 1)], None, ("mixed",))
+        told = judge_clear(table)
+        self.assertFalse(told)
+        self.assertEqual(told.words, ("-a", "", ""))
+        self.assertTrue(told.shows(table))
 
 
 if __name__ == "__main__":

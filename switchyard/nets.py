@@ -1,0 +1,159 @@
+"""Machines over an alphabet, with numbers for places, and the search for least rows of signs.
+
+Signs are told by their numbers in the alphabet, in which END is the first one.
+"""
+
+from switchyard.machines import FIRST_PLACE, Machine
+
+
+class Net:
+    """The places of a table, numbered as they are found, and their moves by the signs of an alphabet."""
+
+    def __init__(self, table, signs):
+        self.machine = Machine(table)
+        self.signs = signs
+        self.places = []
+        self.numbers = {}
+        self.ends = []
+        self.led = []
+        self.led_on = []
+        self._number(FIRST_PLACE)
+
+    def moves(self, number):
+        """The moves from a place: for each sign by which there are some, pairs of a place and a mark or ()."""
+        if self.led[number] is None:
+            self.led[number] = self._found_moves(self.places[number])
+        return self.led[number]
+
+    def live_moves(self, number):
+        """The moves to places from which some row leads to an end."""
+        if len(self.led_on) == 0:
+            self._find_live_moves()
+        return self.led_on[number]
+
+    def _number(self, place):
+        number = self.numbers.get(place, -1)
+        if number < 0:
+            number = len(self.places)
+            self.numbers[place] = number
+            self.places.append(place)
+            self.ends.append(self.machine.is_end(place))
+            self.led.append(None)
+        return number
+
+    def _found_moves(self, place):
+        found = {}
+        for number, sign in enumerate(self.signs):
+            moves = self.machine.moves(place, sign)
+            if len(moves) > 0:
+                found[number] = [(self._number(behind), _one_mark(marks)) for behind, marks in moves]
+        return found
+
+    def _find_live_moves(self):
+        live = live_among(self._backwards(), [number for number, is_end in enumerate(self.ends) if is_end])
+        for moves in self.led:
+            kept = {}
+            for sign, found in moves.items():
+                good = [move for move in found if move[0] in live]
+                if len(good) > 0:
+                    kept[sign] = good
+            self.led_on.append(kept)
+
+    def _backwards(self):
+        """From which places a move leads to each place; all places are found by this."""
+        before = {}
+        at = 0
+        while at < len(self.places):
+            for behind in {move[0]: True for found in self.moves(at).values() for move in found}:
+                before.setdefault(behind, []).append(at)
+            at += 1
+        return before
+
+
+def live_among(before, ends):
+    """What leads to one of these ends, as a dict, by what is right before each thing."""
+    live = {end: True for end in ends}
+    left = list(ends)
+    while len(left) > 0:
+        for earlier in before.get(left.pop(), []):
+            if earlier not in live:
+                live[earlier] = True
+                left.append(earlier)
+    return live
+
+
+def least_row(space, most):
+    """The least row of signs by which a space leads from its first state to a goal.
+
+    None if none does, or none of at most so many signs; no bound if most is None. States that one
+    row leads to stand together, and these groups in the order of their rows; so each state is
+    found by its least row.
+    """
+    first = space.first_state()
+    if space.is_new(first) and space.is_goal(first):
+        return ()
+    trail = [(0, 0)]
+    groups = [(0, [first])]
+    length = 0
+    while len(groups) > 0 and length != most:
+        length += 1
+        later = []
+        for number, states in groups:
+            for sign, found in _led_to(space, states):
+                trail.append((number, sign))
+                if any([space.is_goal(state) for state in found]):
+                    return _row_of(trail)
+                later.append((len(trail) - 1, found))
+        groups = later
+    return None
+
+
+def told_words(signs, row):
+    """The words of a row of signs."""
+    words = []
+    begun = []
+    for number in row:
+        if number == 0:
+            words.append("".join(begun))
+            begun = []
+        else:
+            begun.append(signs[number])
+    return tuple(words)
+
+
+def _one_mark(marks):
+    """The mark that a move tells; () if it tells none. (None tells more than one.)"""
+    if len(marks) == 0:
+        return ()
+    return marks[0]
+
+
+def _led_to(space, states):
+    """The new states to which each sign leads from some states, by ascending signs.
+
+    Which of them are new is asked in this order, too, as it depends on what was found before.
+    """
+    found = {}
+    for state in states:
+        for sign, later in space.moves(state):
+            if sign in found:
+                found[sign].append(later)
+            else:
+                found[sign] = [later]
+    led = []
+    for sign in sorted(found):
+        new = [state for state in found[sign] if space.is_new(state)]
+        if len(new) > 0:
+            led.append((sign, new))
+    return led
+
+
+def _row_of(trail):
+    """The signs that lead to the last group of a trail."""
+    row = []
+    at = len(trail) - 1
+    while at > 0:
+        at, sign = trail[at]
+        row.append(sign)
+    row.reverse()
+    return tuple(row)

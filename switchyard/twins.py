@@ -1,0 +1,148 @@
+"""Two ways by one row of signs: pairs of places, and what the one way has told beyond the other."""
+
+EVEN = 0
+APART = 1
+
+
+class Lags:
+    """Lags of two ways, with numbers: EVEN if they have told the same, APART if they never will."""
+
+    def __init__(self):
+        self.rows = [(), None]
+        self.numbers = {(): EVEN}
+        self.further = {}
+        self.turns = {}
+
+    def later(self, lag, mark, other):
+        """The lag when the first way has told one mark more, or none, (), and the second way another one."""
+        if lag == APART or (lag == EVEN and mark == other):
+            return lag
+        asked = (lag, mark, other)
+        if asked not in self.further:
+            self.further[asked] = self._number(_extended(self.rows[lag], mark, other))
+        return self.further[asked]
+
+    def turned(self, lag):
+        """The lag with the ways the other way round."""
+        if lag == EVEN or lag == APART:
+            return lag
+        if lag not in self.turns:
+            self.turns[lag] = self._number(turned_rows(self.rows[lag]))
+        return self.turns[lag]
+
+    def _number(self, rows):
+        if rows is None:
+            return APART
+        if rows not in self.numbers:
+            self.numbers[rows] = len(self.rows)
+            self.rows.append(rows)
+        return self.numbers[rows]
+
+
+class Twins:
+    """Pairs of places of two nets to which one row leads, each with at most two lags.
+
+    A third lag is not needed: whatever row leads on to ends, at most one of two lags is evened out
+    by it, so the other one tells as much, by a lesser row.
+    """
+
+    def __init__(self, one, other):
+        self.one = one
+        self.other = other
+        self.lags = Lags()
+        self.kept = {}
+
+    def first_state(self):
+        return (0, 0, EVEN)
+
+    def is_new(self, state):
+        pair = (state[0], state[1])
+        kept = self.kept.get(pair, ())
+        if len(kept) > 1 or state[2] in kept or APART in kept:
+            return False
+        self.kept[pair] = (*kept, state[2])
+        return True
+
+    def is_goal(self, state):
+        """Whether lists may end at both places, where both ways have told unlike things."""
+        return state[2] != EVEN and self.one.ends[state[0]] and self.other.ends[state[1]]
+
+    def moves(self, state):
+        """Pairs of a sign and a state."""
+        place, beside, lag = state
+        others = self.other.live_moves(beside)
+        found = []
+        for sign, moves in self.one.live_moves(place).items():
+            for behind, mark in moves:
+                for behind_beside, mark_beside in others.get(sign, ()):
+                    found.append((sign, (behind, behind_beside, self.lags.later(lag, mark, mark_beside))))
+        return found
+
+
+class Selves:
+    """As Twins, for one net and all its moves; the lesser number stands first in each pair."""
+
+    def __init__(self, net):
+        self.net = net
+        self.twins = Twins(net, net)
+        self.before = {}
+
+    def first_state(self):
+        return self.twins.first_state()
+
+    def is_new(self, state):
+        return self.twins.is_new(state)
+
+    def is_goal(self, state):
+        return self.twins.is_goal(state)
+
+    def moves(self, state):
+        """Pairs of a sign and a state; what pairs they lead to is kept in `before`."""
+        place, beside, lag = state
+        others = self.net.moves(beside)
+        lags = self.twins.lags
+        found = {}
+        for sign, moves in self.net.moves(place).items():
+            for behind, mark in moves:
+                for behind_beside, mark_beside in others.get(sign, ()):
+                    later = lags.later(lag, mark, mark_beside)
+                    if behind <= behind_beside:
+                        found[(sign, (behind, behind_beside, later))] = True
+                    else:
+                        found[(sign, (behind_beside, behind, lags.turned(later)))] = True
+        if self.twins.kept[(place, beside)][0] == lag:
+            for pair in {(later[0], later[1]): True for _, later in found}:
+                self.before.setdefault(pair, []).append((place, beside))
+        return list(found)
+
+    def is_end(self, pair):
+        return self.net.ends[pair[0]] and self.net.ends[pair[1]]
+
+    def pairs(self):
+        """All pairs that were found, each with its first lag."""
+        return {pair: self.twins.lags.rows[kept[0]] for pair, kept in self.twins.kept.items()}
+
+
+def turned_rows(rows):
+    """The rows of a lag, the other way round."""
+    return tuple([(tape, other, row) for tape, row, other in rows])
+
+
+def _extended(lag, mark, other):
+    """The rows of a lag when both ways have told more; None if they never tell the same again."""
+    rows = {tape: (row, back) for tape, row, back in lag}
+    if mark != ():
+        row, back = rows.get(mark[0], ((), ()))
+        rows[mark[0]] = ((*row, mark[1]), back)
+    if other != ():
+        row, back = rows.get(other[0], ((), ()))
+        rows[other[0]] = (row, (*back, other[1]))
+    told = []
+    for tape in sorted(rows):
+        row, back = rows[tape]
+        many = min(len(row), len(back))
+        if row[:many] != back[:many]:
+            return None
+        if len(row) != len(back):
+            told.append((tape, row[many:], back[many:]))
+    return tuple(told)
