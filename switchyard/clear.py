@@ -57,7 +57,7 @@ def judge_clear(table):
     """A Clear if every list has at most one reading, otherwise the least Twice."""
     check_measures(table)
     signs = alphabet([table], "")
-    selves = Selves(Net(table, signs))
+    selves = Selves(Net(table, signs, True))
     row = least_row(selves, None)
     if row is None:
         return _clear(selves)

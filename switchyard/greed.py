@@ -13,6 +13,7 @@ class Refusals:
         self.net = net
         self.walks = Walks(net)
         self.found = {}
+        self.groups = {}
 
     def first_state(self):
         return (self.walks.first, 0)
@@ -27,20 +28,50 @@ class Refusals:
         return self.net.ends[state[1]] and not self.walks.is_end(state[0])
 
     def moves(self, state):
-        """Pairs of a sign and a state."""
-        led = self.walks.moves(state[0])
+        """Pairs of a sign and a state, each state once, by the least sign that leads to it."""
+        walk, place = state
+        led = self.walks.moves(walk)
         found = []
-        for sign, moves in self.net.live_moves(state[1]).items():
-            walk = led.get(sign, self.walks.refused)
-            found.extend([(sign, (walk, behind)) for behind, _ in moves])
+        for places, signs in self._grouped(place):
+            for later, sign in self._led_together(led, signs):
+                found.extend([(sign, (later, behind)) for behind in places])
         return found
+
+    def _grouped(self, place):
+        """The places to which signs lead from a place, with the ascending signs that lead to just these.
+
+        Most signs lead on alike, and these are many in large tables.
+        """
+        if place not in self.groups:
+            found = {}
+            for sign, moves in self.net.live_moves(place).items():
+                found.setdefault(tuple([behind for behind, _ in moves]), {})[sign] = True
+            self.groups[place] = list(found.items())
+        return self.groups[place]
+
+    def _led_together(self, led, signs):
+        """The walks to which some signs lead, each with the least sign."""
+        walks = {}
+        for sign in signs:
+            if sign not in led:
+                walks[self.walks.refused] = sign
+                break
+        if len(led) < len(signs):
+            for sign, later in led.items():
+                if sign in signs:
+                    walks.setdefault(later, sign)
+        else:
+            for sign in signs:
+                if sign in led:
+                    walks.setdefault(led[sign], sign)
+        return list(walks.items())
 
 
 def judge_greedy(table):
     """None if the reader reads every list that has a reading, otherwise the least one that it refuses."""
     check_measures(table)
     signs = alphabet([table], "")
-    row = least_row(Refusals(Net(table, signs)), None)
+    row = least_row(Refusals(Net(table, signs, False)), None)
     if row is None:
         return None
     return told_words(signs, row)

@@ -7,11 +7,20 @@ from switchyard.machines import FIRST_PLACE, Machine
 
 
 class Net:
-    """The places of a table, numbered as they are found, and their moves by the signs of an alphabet."""
+    """The places of a table, numbered as they are found, and their moves by the signs of an alphabet.
 
-    def __init__(self, table, signs):
+    Unless all places are asked for, one place stands for all that differ in a text alone which the
+    same signs complete; there may be many of them, as of the numbers from 10 to 99.
+    """
+
+    def __init__(self, table, signs, with_all_places):
         self.machine = Machine(table)
         self.signs = signs
+        self.alike = {}
+        if not with_all_places:
+            for name, beginnings in self.machine.beginnings.items():
+                if name != "" and beginnings is not None:
+                    self.alike[name] = _alike(beginnings)
         self.places = []
         self.numbers = {}
         self.ends = []
@@ -46,11 +55,19 @@ class Net:
         for number, sign in enumerate(self.signs):
             moves = self.machine.moves(place, sign)
             if len(moves) > 0:
-                found[number] = [(self._number(behind), _one_mark(marks)) for behind, marks in moves]
+                found[number] = [(self._number(self._standing(behind)), _one_mark(marks)) for behind, marks in moves]
         return found
 
+    def _standing(self, place):
+        """The place that stands for this one."""
+        if place[6] == () or place[6][1] not in self.alike:
+            return place
+        what, name, text = place[6]
+        return (*place[:6], (what, name, self.alike[name][text]))
+
     def _find_live_moves(self):
-        live = live_among(self._backwards(), [number for number, is_end in enumerate(self.ends) if is_end])
+        before = self._backwards()
+        live = live_among(before, [number for number, is_end in enumerate(self.ends) if is_end])
         for moves in self.led:
             kept = {}
             for sign, found in moves.items():
@@ -119,6 +136,20 @@ def told_words(signs, row):
         else:
             begun.append(signs[number])
     return tuple(words)
+
+
+def _alike(beginnings):
+    """For each beginning of some texts the first one that the same signs complete."""
+    completed = {}
+    for text, is_whole in beginnings.items():
+        if is_whole:
+            for many in range(len(text) + 1):
+                completed.setdefault(text[:many], []).append(text[many:])
+    first = {}
+    alike = {}
+    for text, rests in completed.items():
+        alike[text] = first.setdefault(tuple(sorted(rests)), text)
+    return alike
 
 
 def _one_mark(marks):

@@ -57,7 +57,7 @@ def _judged(one, other, both_ways):
         if not told:
             raise NotClear(told)
     signs = alphabet([one, other], "")
-    nets = [Net(table, signs) for table in [one, other]]
+    nets = [Net(table, signs, False) for table in [one, other]]
     row = least_row(Sides(Sets(nets[0]), Sets(nets[1]), both_ways), None)
     most = None
     if row is not None:

@@ -62,7 +62,7 @@ def spelled(table, reading):
     if told_reading(table, marks) != reading:
         return None
     signs = alphabet([table], "".join([text for _, _, text in marks]))
-    row = least_row(Tellings(Net(table, signs), _tapes(marks)), None)
+    row = least_row(Tellings(Net(table, signs, False), _tapes(marks)), None)
     if row is None:
         return None
     return told_words(signs, row)

@@ -68,15 +68,15 @@ class Twins:
         return state[2] != EVEN and self.one.ends[state[0]] and self.other.ends[state[1]]
 
     def moves(self, state):
-        """Pairs of a sign and a state."""
+        """Pairs of a sign and a state, each state once, by the least sign that leads to it."""
         place, beside, lag = state
         others = self.other.live_moves(beside)
-        found = []
+        found = {}
         for sign, moves in self.one.live_moves(place).items():
             for behind, mark in moves:
                 for behind_beside, mark_beside in others.get(sign, ()):
-                    found.append((sign, (behind, behind_beside, self.lags.later(lag, mark, mark_beside))))
-        return found
+                    found.setdefault((behind, behind_beside, self.lags.later(lag, mark, mark_beside)), sign)
+        return [(sign, later) for later, sign in found.items()]
 
 
 class Selves:
@@ -97,7 +97,10 @@ class Selves:
         return self.twins.is_goal(state)
 
     def moves(self, state):
-        """Pairs of a sign and a state; what pairs they lead to is kept in `before`."""
+        """Pairs of a sign and a state, each state once, by the least sign that leads to it.
+
+        What is right before each pair is kept.
+        """
         place, beside, lag = state
         others = self.net.moves(beside)
         lags = self.twins.lags
@@ -107,13 +110,13 @@ class Selves:
                 for behind_beside, mark_beside in others.get(sign, ()):
                     later = lags.later(lag, mark, mark_beside)
                     if behind <= behind_beside:
-                        found[(sign, (behind, behind_beside, later))] = True
+                        found.setdefault((behind, behind_beside, later), sign)
                     else:
-                        found[(sign, (behind_beside, behind, lags.turned(later)))] = True
+                        found.setdefault((behind_beside, behind, lags.turned(later)), sign)
         if self.twins.kept[(place, beside)][0] == lag:
-            for pair in {(later[0], later[1]): True for _, later in found}:
+            for pair in {(behind, behind_beside): True for behind, behind_beside, _ in found}:
                 self.before.setdefault(pair, []).append((place, beside))
-        return list(found)
+        return [(sign, later) for later, sign in found.items()]
 
     def is_end(self, pair):
         return self.net.ends[pair[0]] and self.net.ends[pair[1]]

@@ -18,13 +18,13 @@ class Walks:
         self.first = self._number((0,))
 
     def moves(self, number):
-        """For each sign that the reader does not refuse, the walk behind it."""
+        """For each sign, ascending, that the reader does not refuse, the walk behind it."""
         if number not in self.led:
             found = {}
             for place in self.rows[number]:
                 for sign, moves in self.net.moves(place).items():
                     found.setdefault(sign, []).extend(self._in_order([behind for behind, _ in moves]))
-            self.led[number] = {sign: self._number(self._needed(row)) for sign, row in found.items()}
+            self.led[number] = {sign: self._number(self._needed(found[sign])) for sign in sorted(found)}
         return self.led[number]
 
     def is_end(self, number):
