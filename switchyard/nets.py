@@ -125,6 +125,36 @@ def least_row(space, most):
     return None
 
 
+def least_row_within(space, most):
+    """The least row of this many signs that leads a space from its first state to a goal.
+
+    There must be no row of fewer signs that does. It goes on by the least sign as long as a state
+    may come to a goal in time, and from each state again only if there is more time.
+    """
+    first = space.first_state()
+    if space.is_goal(first):
+        return ()
+    tried = {}
+    row = []
+    choices = [_choices(space, [first])]
+    while len(choices) > 0:
+        if len(choices[-1]) == 0:
+            choices.pop()
+            row = row[:-1]
+            continue
+        sign, states = choices[-1].pop()
+        left = most - len(choices)
+        good = [state for state in states if tried.get(state, -1) < left and space.least_left(state) <= left]
+        if any([space.is_goal(state) for state in good]):
+            return (*row, sign)
+        if len(good) > 0:
+            for state in good:
+                tried[state] = left
+            row.append(sign)
+            choices.append(_choices(space, good))
+    return None
+
+
 def told_words(signs, row):
     """The words of a row of signs."""
     words = []
@@ -177,6 +207,15 @@ def _led_to(space, states):
         if len(new) > 0:
             led.append((sign, new))
     return led
+
+
+def _choices(space, states):
+    """The states to which each sign leads from some states, by descending signs."""
+    found = {}
+    for state in states:
+        for sign, later in space.moves(state):
+            found.setdefault(sign, {})[later] = True
+    return [(sign, list(found[sign])) for sign in sorted(found, reverse=True)]
 
 
 def _row_of(trail):

@@ -151,6 +151,31 @@ class Spelled(unittest.TestCase):
         reading = Reading({"o" + name: ((name,),) for name in "abcdefgh"}, {}, "")
         self.assertEqual(spelled(eight, reading), tuple("-" + name * 2 for name in "abcdefgh"))
 
+    def test_readings_with_many_comings(self):
+        options = [option(f"o{at}", sign, NOTHING if at % 2 else ("one", FIGURE)) for at, sign in enumerate("abcdefgh")]
+        table = Table(options, [operand("f")], None, ("ends",))
+        comings = {f"o{at}": ((),) * 20 if at % 2 else (("1",),) * 20 for at in range(8)}
+        words = ("-a1",) * 20 + ("-" + "b" * 20 + "c1",) + ("-c1",) * 19 + ("-" + "d" * 20 + "e1",) + ("-e1",) * 19
+        words += ("-" + "f" * 20 + "g1",) + ("-g1",) * 18 + ("-" + "h" * 20 + "g1",)
+        self.assertEqual(spelled(table, Reading(comings, {"f": ("x", "-y")}, "")), (*words, "x", "-y"))
+        self.assertEqual(spelled(table, Reading(comings, {"f": ("-x", "-y")}, "")), (*words, "--", "-x", "-y"))
+        for wrong in [(("x",),) * 20, ((),) * 20, (("1", "1"),), (("1",), ("",))]:
+            self.assertIsNone(spelled(table, Reading({**comings, "o0": wrong}, {"f": ()}, "")))
+
+    def test_readings_with_many_comings_behind_a_command(self):
+        part = Table([option(f"i{sign}", sign, ("maybe", ANY)) for sign in "ab"], [operand("g")])
+        options = [option(f"o{sign}", sign) for sign in "xyz"] + [option("ou", "u", ("one", ANY))]
+        comings = {"ia": ((), ("v",), ()), "ib": ((), ("v",), ()), "ou": (("x",),) * 2}
+        comings.update({f"o{sign}": ((),) * 9 for sign in "xyz"})
+        reading = Reading(comings, {"f": ("a",), "g": ()}, "go")
+        for traits, words in [
+            ((), ("-ux", "-" + "x" * 9 + "y" * 9 + "z" * 9 + "ux", "a", "go", "-aav", "-abbv", "-b")),
+            (("far",), ("-ux", "a", "go", "-aav", "-abbv", "-b" + "x" * 9 + "y" * 9 + "z" * 9 + "ux")),
+        ]:
+            table = Table(options, [operand("f", CHOSEN)], {"go": part}, traits)
+            self.assertEqual(spelled(table, reading), words)
+            self.assertIn(reading, all_readings(table, words))
+
     def test_samples(self):
         found = 0
         for seed, table in tables(300, 600):
