@@ -69,7 +69,7 @@ class Left(unittest.TestCase):
                     if row:
                         self.assertIsNone(least_row_within(again, len(row) - 1), (seed, words))
                     found += 1
-        self.assertGreater(found, 200)
+        self.assertGreater(found, 150)
 
 
 if __name__ == "__main__":
