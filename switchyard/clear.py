@@ -3,7 +3,7 @@
 from switchyard.machines import alphabet, check_measures
 from switchyard.nets import Net, least_row, live_among, told_words
 from switchyard.readings import all_readings
-from switchyard.tellings import are_words, is_reading
+from switchyard.tellings import are_words, as_tuple, is_reading
 from switchyard.twins import Selves, turned_rows
 
 
@@ -11,7 +11,7 @@ class Clear:
     """That a table is clear: the lags of all pairs of places that lead on to ends, and the other pairs."""
 
     def __init__(self, lags, dead):
-        self.lags = lags
+        self.lags = {pair: lags[pair] for pair in lags}
         self.dead = dead
 
     def __eq__(self, other):
@@ -30,7 +30,7 @@ class Twice:
     """That a table is not clear: a list with two unlike readings."""
 
     def __init__(self, words, one, other):
-        self.words = words
+        self.words = as_tuple(words)
         self.one = one
         self.other = other
 

@@ -6,7 +6,7 @@ from switchyard.machines import alphabet, check_measures
 from switchyard.nets import Net, least_row, told_words
 from switchyard.readings import Reading, all_readings
 from switchyard.sides import Sets, Sides
-from switchyard.tellings import are_like, are_words, has_reading, is_reading
+from switchyard.tellings import are_like, are_words, as_tuple, has_reading, is_reading
 from switchyard.twins import Twins
 
 
@@ -14,7 +14,7 @@ class Parted:
     """A list that two tables don't read alike, with its readings by both, None for none."""
 
     def __init__(self, words, one, other):
-        self.words = words
+        self.words = as_tuple(words)
         self.one = one
         self.other = other
 

@@ -10,6 +10,13 @@ def are_words(words):
     return is_row(words) and all([isinstance(word, str) for word in words])
 
 
+def as_tuple(words):
+    """A row of words as a tuple; what is none, as it is."""
+    if is_row(words):
+        return tuple(words)
+    return words
+
+
 def has_reading(table, words):
     """Whether a list has a reading."""
     return len(live_layers(Ways(table), words)[0]) > 0
@@ -17,7 +24,7 @@ def has_reading(table, words):
 
 def is_reading(table, words, reading):
     """Whether this is a reading of a list."""
-    if not isinstance(reading, Reading) or (reading.command != "" and reading.command not in table.commands):
+    if not _is_made_of_tuples(reading) or (reading.command != "" and reading.command not in table.commands):
         return False
     told = marks_of(reading)
     if told_reading(table, told) != reading:
@@ -60,6 +67,18 @@ def marks_of(reading):
     if reading.command != "":
         marks.append(("command", "", reading.command))
     return marks
+
+
+def _is_made_of_tuples(reading):
+    """Whether this is a Reading, and of the kinds of values that readings have."""
+    if not isinstance(reading, Reading) or not isinstance(reading.command, str):
+        return False
+    rows = list(reading.operands.values())
+    for comings in reading.options.values():
+        if not isinstance(comings, tuple):
+            return False
+        rows.extend(comings)
+    return all([isinstance(row, tuple) and are_words(row) for row in rows])
 
 
 def _further_counts(tapes, counts, marks):

@@ -267,7 +267,9 @@ class Shown(unittest.TestCase):
             Reading({"a": ((),)}, {"f": ()}, ""), Reading({"a": ((),), "b": ()}, {"f": ("",)}, ""),
             Reading({"a": ((),)}, {"f": ("",)}, "go"), Reading({"a": ((),)}, {}, ""), Reading({}, {"f": ("",)}, ""),
             Reading({"a": ((),)}, {"f": ("x",)}, ""), Reading({"a": ((), ())}, {"f": ("",)}, ""),
-            Reading({"a": [()]}, {"f": ("",)}, ""), Reading({"a": ((),)}, {"f": [""]}, ""), None, 7, one.key(),
+            Reading({"a": [()]}, {"f": ("",)}, ""), Reading({"a": ((),)}, {"f": [""]}, ""), Reading({"a": ([],)}, {"f": ("",)}, ""), Reading({"a": None}, {"f": ("",)}, ""),
+            Reading({"a": ((7,),)}, {"f": ("",)}, ""), Reading({"a": ((),)}, {"f": None}, ""), Reading({"a": ((),)}, {"f": (7,)}, ""),
+            Reading({"a": ((),)}, {"f": ("",)}, None), Reading({"a": ((),)}, {"f": ("",)}, []), None, 7, one.key(),
         ]:
             self.assertIs(Twice(told.words, wrong, other).shows(DOUBLE), False)
             self.assertIs(Twice(told.words, one, wrong).shows(DOUBLE), False)
@@ -282,6 +284,13 @@ class Shown(unittest.TestCase):
         one, other = [Reading({"a": (("x",) * had,)}, {"f": ("x",) * (30 - had)}, "") for had in [3, 29]]
         self.assertIs(Twice(many, one, other).shows(table), True)
         self.assertIs(Twice(many[:-1], one, other).shows(table), False)
+
+    def test_what_is_given_is_not_kept(self):
+        lags, words = {(FIRST_PLACE, FIRST_PLACE): ()}, ["a"]
+        told, twice = Clear(lags, ()), Twice(words, None, None)
+        lags.clear()
+        words.append("b")
+        self.assertEqual((told.lags, twice.words), ({(FIRST_PLACE, FIRST_PLACE): ()}, ("a",)))
 
     def test_equality(self):
         told = judge_clear(DOUBLE)

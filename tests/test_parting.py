@@ -179,7 +179,8 @@ class Shown(unittest.TestCase):
         self.assertIs(told.shows(self.one, self.one), False)
         for words in [("-a",), (), ("-a", "1"), ("--a", "0", "0"), ("x",), None, "-a", ("-a", 0)]:
             self.check(words, told.one, told.other, False)
-        for reading in [None, 7, told.one.key(), Reading({"a": (("1",),)}, {"f": ()}, ""), Reading({}, {}, "")]:
+        self.assertEqual(Parted(list(told.words), told.one, told.other), told)
+        for reading in [None, 7, told.one.key(), Reading({"a": None}, {"f": ()}, ""), Reading(told.one.options, told.one.operands, "go"), Reading({"a": (("1",),)}, {"f": ()}, ""), Reading({}, {}, "")]:
             self.check(told.words, reading, told.other, False)
             self.check(told.words, told.one, reading, False)
         self.check(told.words, told.one, told.one, False)
