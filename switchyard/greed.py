@@ -45,7 +45,7 @@ class Refusals:
         if place not in self.groups:
             found = {}
             for sign, moves in self.net.live_moves(place).items():
-                found.setdefault(tuple([behind for behind, _ in moves]), {})[sign] = True
+                found.setdefault(tuple([behind for behind, _ in moves]), []).append(sign)
             self.groups[place] = list(found.items())
         return self.groups[place]
 
@@ -53,17 +53,7 @@ class Refusals:
         """The walks to which some signs lead, each with the least sign."""
         walks = {}
         for sign in signs:
-            if sign not in led:
-                walks[self.walks.refused] = sign
-                break
-        if len(led) < len(signs):
-            for sign, later in led.items():
-                if sign in signs:
-                    walks.setdefault(later, sign)
-        else:
-            for sign in signs:
-                if sign in led:
-                    walks.setdefault(led[sign], sign)
+            walks.setdefault(led.get(sign, self.walks.refused), sign)
         return list(walks.items())
 
 

@@ -24,7 +24,7 @@ def has_reading(table, words):
 
 def is_reading(table, words, reading):
     """Whether this is a reading of a list."""
-    if not _is_made_of_tuples(reading) or (reading.command != "" and reading.command not in table.commands):
+    if not _is_made_of_rows(reading) or (reading.command != "" and reading.command not in table.commands):
         return False
     told = marks_of(reading)
     if told_reading(table, told) != reading:
@@ -69,8 +69,8 @@ def marks_of(reading):
     return marks
 
 
-def _is_made_of_tuples(reading):
-    """Whether this is a Reading, and of the kinds of values that readings have."""
+def _is_made_of_rows(reading):
+    """Whether this is a Reading whose parts can be gone through; that they are tuples is seen later."""
     if not isinstance(reading, Reading) or not isinstance(reading.command, str):
         return False
     rows = list(reading.operands.values())
@@ -78,7 +78,7 @@ def _is_made_of_tuples(reading):
         if not isinstance(comings, tuple):
             return False
         rows.extend(comings)
-    return all([isinstance(row, tuple) and are_words(row) for row in rows])
+    return all([are_words(row) for row in rows])
 
 
 def _further_counts(tapes, counts, marks):

@@ -268,7 +268,7 @@ class Shown(unittest.TestCase):
             Reading({"a": ((),)}, {"f": ("",)}, "go"), Reading({"a": ((),)}, {}, ""), Reading({}, {"f": ("",)}, ""),
             Reading({"a": ((),)}, {"f": ("x",)}, ""), Reading({"a": ((), ())}, {"f": ("",)}, ""),
             Reading({"a": [()]}, {"f": ("",)}, ""), Reading({"a": ((),)}, {"f": [""]}, ""), Reading({"a": ([],)}, {"f": ("",)}, ""), Reading({"a": None}, {"f": ("",)}, ""),
-            Reading({"a": ((7,),)}, {"f": ("",)}, ""), Reading({"a": ((),)}, {"f": None}, ""), Reading({"a": ((),)}, {"f": (7,)}, ""),
+            Reading({"a": ((7,),)}, {"f": ("",)}, ""), Reading({"a": (None,)}, {"f": ("",)}, ""), Reading({"a": ((),)}, {"f": None}, ""), Reading({"a": ((),)}, {"f": (7,)}, ""),
             Reading({"a": ((),)}, {"f": ("",)}, None), Reading({"a": ((),)}, {"f": ("",)}, []), None, 7, one.key(),
         ]:
             self.assertIs(Twice(told.words, wrong, other).shows(DOUBLE), False)
@@ -302,6 +302,7 @@ class Shown(unittest.TestCase):
         self.assertFalse(self.told == Clear(self.told.lags, ()))
         self.assertFalse(self.told == Clear({}, self.told.dead))
         self.assertFalse(Twice((), 1, 2) == Twice((), 1, 3))
+        self.assertFalse(Twice((), 1, 2) == Twice((), 3, 2))
         self.assertFalse(Twice((), 1, 2) == ((), 1, 2))
         self.assertIs(bool(Clear({}, ())), True)
         self.assertIs(bool(Twice((), None, None)), False)

@@ -366,6 +366,15 @@ class WithinOptions(Moves):
         self.check(far, place(part=("dash", "", "")), "d")
         self.check(far, letter, "x", (place(path="go", counts=(("omega", 1),), part=("attached", "omega", ".")), (("omega", "x"),)))
 
+    def test_no_option_is_known_where_options_are_over(self):
+        for over in [1, 2]:
+            self.check(self.table, place(over=over, part=("dash", "", "")), "a")
+            self.check(self.table, place(over=over, part=("dashes", "", "")), "a")
+            self.check(self.table, place(over=over, part=("long", "", "on")), "e")
+            for sign in ["", "="]:
+                self.check(self.table, place(over=over, part=("long", "", "one")), sign)
+            self.check(self.table, place(over=over, part=("letter", "all", "")), "o")
+
     def test_traits_are_those_of_the_path(self):
         part = Table([option("deep", "d")], [Operand("f", ANY)], None, ("ends", "dashed"))
         table = Table([option("out", "o", ("one", ANY))], [], {"go": part}, ("far",))

@@ -143,6 +143,12 @@ class Extends(Judged):
         self.assertEqual(told.other.options, {"a": ((),)})
         self.assertEqual(told.other.operands, {"f": ("0",)})
 
+    def test_one_list_is_not_read_and_another_one_otherwise(self):
+        for sign, other in ["ab", "ba"]:
+            one = Table([option("x", sign), option("y", other)])
+            self.check_parted(judge_extends, one, Table([option("x", other)]), "-a")
+            self.check_parted(judge_alike, Table([option("x", other)]), one, "-a")
+
     def test_groups(self):
         one = Table([], [operand("f", ANY, 1, 1), operand("g")])
         other = Table([], [operand("f", ANY, 2, 2), operand("g")])
@@ -193,6 +199,7 @@ class Shown(unittest.TestCase):
         self.check(words, reading, None, False)
         self.check(words, reading, reading, False)
         self.check(words, None, None, False)
+        self.check(words, 7, reading, False)
         back = Parted(words, reading, None)
         self.assertIs(back.shows(self.other, self.one), True)
         self.check(("-x",), None, None, False)
@@ -220,6 +227,7 @@ class Shown(unittest.TestCase):
         self.assertFalse(told == Parted(told.words, told.other, told.one))
         self.assertFalse(told == Parted((), told.one, told.other))
         self.assertFalse(told == Parted(told.words, told.one, None))
+        self.assertFalse(told == Parted(told.words, None, told.other))
         self.assertFalse(told == Twice(told.words, told.one, told.other))
         self.assertFalse(told == None)  # noqa: E711
 

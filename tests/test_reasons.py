@@ -66,6 +66,9 @@ class AtTheEnd(Reasons):
             self.check(table, ["-a"], *pairs)
             self.check(table, ["go"])
         self.check(Table([option("all", "a")]), ["-a"])
+        table = Table([option("all", "a", NOTHING, 1)], [], {"go": Table([])}, ("alone",))
+        self.check(table, [], ("low", "all"))
+        self.check(table, ["go"], ("low", "all"))
 
     def test_options_that_came_too_few_times(self):
         options = [option("one", "o", NOTHING, 1), option("two", "t", NOTHING, 2, 3), option("zero", "z")]
