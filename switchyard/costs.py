@@ -47,6 +47,10 @@ class Costs:
             self.together = [[numbers[name] for name in self.shortest]]
         self.closed = {}
         self.is_end_needed = {path: self._needs_end(path, reading) for path in ways.tables}
+        self.ends = {path: TOO_MANY for path in ways.tables}
+        for path, table in ways.tables.items():
+            if "ends" in table.traits:
+                self.ends[path] = 3
 
     def left(self, place, counts):
         """How many signs and ENDs lead at least from a place to an end that tells all that is left."""
@@ -54,11 +58,7 @@ class Costs:
         if self._is_too_late(path, group, over, counts) or self._is_left_out(pending, part, counts):
             return TOO_MANY
         marks = sum([len(tape) - at for tape, at in zip(self.tapes, counts)])
-        beyond = 0
-        if over == 0 and self.is_end_needed[path]:
-            beyond = 3
-        elif path == "" and over < 2 and self.command != "" and self.is_end_needed[self.command]:
-            beyond = 3
+        beyond = self._for_ends(path, over)
         for numbers in self.together:
             costs, _, alone, options, trailing = self._what_is_left(numbers, counts)
             beyond += costs
@@ -67,6 +67,16 @@ class Costs:
         if part != ():
             beyond += self._within_word(path, part, counts)
         return marks + max(beyond, 0)
+
+    def _for_ends(self, path, over):
+        """What a word `--` takes if one lacks; TOO_MANY if there can be none."""
+        if over == 0 and self.is_end_needed[path]:
+            return self.ends[path]
+        if path != "" or over == 2 or self.command == "" or not self.is_end_needed[self.command]:
+            return 0
+        if over == 0:
+            return min(self.ends[""], self.ends[self.command])
+        return self.ends[self.command]
 
     def _is_too_late(self, path, group, over, counts):
         """Whether an option is left that can come no more, or an operand's word that can stand no more."""

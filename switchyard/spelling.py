@@ -1,10 +1,12 @@
 """The least list that has a reading."""
 
-from switchyard.costs import Costs
+from switchyard.costs import TOO_MANY, Costs
+from switchyard.kinds import is_of
 from switchyard.machines import CAME, STOP, alphabet, check_measures
 from switchyard.nets import Net, least_row, least_row_within, told_words
 from switchyard.readings import told_reading
 from switchyard.tellings import marks_of
+from switchyard.ways import holds, tables_on_the_way
 
 
 class Tellings:
@@ -59,58 +61,62 @@ class Tellings:
         return (*counts[:number], at + 1, *counts[number + 1:])
 
 
-class Tape:
-    """Where rows lead that tell what is told on one tape, and anything on all others."""
-
-    def __init__(self, net, name, marks):
-        self.net = net
-        self.name = name
-        self.marks = marks
-        self.found = {}
-
-    def first_state(self):
-        return (0, 0)
-
-    def is_new(self, state):
-        if state in self.found:
-            return False
-        self.found[state] = True
-        return True
-
-    def is_goal(self, state):
-        return self.net.ends[state[0]] and state[1] == len(self.marks)
-
-    def moves(self, state):
-        """Pairs of a sign and a state, each state once."""
-        place, at = state
-        found = {}
-        for sign, moves in self.net.live_moves(place).items():
-            for behind, mark in moves:
-                if mark == () or mark[0] != self.name:
-                    found.setdefault((behind, at), sign)
-                elif at < len(self.marks) and self.marks[at] == mark[1]:
-                    found.setdefault((behind, at + 1), sign)
-        return [(sign, later) for later, sign in found.items()]
-
-
 def spelled(table, reading):
     """The least list that has a reading; None if none has."""
     check_measures(table)
     if reading.command != "" and reading.command not in table.commands:
         return None
     marks = marks_of(reading)
-    if told_reading(table, marks) != reading:
+    if told_reading(table, marks) != reading or not _fits(table, reading):
         return None
     signs = alphabet([table], "".join([text for _, _, text in marks]))
-    tapes = _tapes(marks)
-    net = Net(table, signs, False)
-    for name in [*tapes, *reading.options, *reading.operands]:
-        if least_row(Tape(net, name, tapes.get(name, [])), None) is None:
-            return None
-    row = _least_row(Tellings(net, reading, tapes))
+    row = _least_row(Tellings(Net(table, signs, False), reading, _tapes(marks)))
     if row is None:
         return None
     return told_words(signs, row)
+
+
+def _fits(table, reading):
+    """Whether each option and operand may have what the reading tells of it, and the conditions hold.
+
+    Most readings that no list has are found so, without a search.
+    """
+    came = {name: len(comings) for name, comings in reading.options.items()}
+    for part in tables_on_the_way(table, reading.command):
+        for option in part.options:
+            comings = reading.options[option.name]
+            if not _are_as_many(option.low, option.high, comings):
+                return False
+            if not all([_may_have(option.takes, values) for values in comings]):
+                return False
+        for operand in part.operands:
+            words = reading.operands[operand.name]
+            if not _are_as_many(operand.few, operand.many, words) or not _are_of(operand.kind, words):
+                return False
+        if not all([holds(condition, came) for condition in part.conditions]):
+            return False
+    return True
+
+
+def _may_have(takes, values):
+    """Whether an option that takes this may have these values in one coming."""
+    if takes[0] == "nothing":
+        return values == ()
+    if takes[0] == "one":
+        few, many = 1, 1
+    elif takes[0] == "maybe":
+        few, many = 0, 1
+    else:
+        few, many = takes[2], takes[3]
+    return _are_as_many(few, many, values) and _are_of(takes[1], values)
+
+
+def _are_as_many(low, high, row):
+    return low <= len(row) and (high is None or len(row) <= high)
+
+
+def _are_of(kind, words):
+    return all([is_of(kind, word) for word in words])
 
 
 def _least_row(tellings):
@@ -120,6 +126,8 @@ def _least_row(tellings):
     all turns in which options may come.
     """
     least = tellings.least_left(tellings.first_state())
+    if least >= TOO_MANY:
+        return None
     for most in range(least, least + 3):
         row = least_row_within(tellings, most)
         if row is not None:

@@ -1,11 +1,12 @@
 """What is left of a reading never takes less than the costs tell, so least lists are found by them."""
 
 import unittest
+from random import Random
 
 from switchyard.costs import Costs
 from switchyard.machines import alphabet, measures
 from switchyard.nets import Net, least_row, least_row_within, told_words
-from switchyard.readings import readings
+from switchyard.readings import Reading, readings
 from switchyard.spelling import Tellings, spelled
 from tests.brute import tapes_of
 from tests.samples import sample_lists, tables
@@ -70,6 +71,42 @@ class Left(unittest.TestCase):
                         self.assertIsNone(least_row_within(again, len(row) - 1), (seed, words))
                     found += 1
         self.assertGreater(found, 150)
+
+    def test_changed_readings_as_without_costs(self):
+        lists, none = 0, 0
+        for seed, table in tables(320, 620):
+            if measures(table)[0] > 120:
+                continue
+            rng = Random(seed)
+            for words in sample_lists(table, seed, 8):
+                for reading in readings(table, words)[:1]:
+                    changed = changed_reading(rng, reading)
+                    row = least_row(tellings_of(table, changed), None)
+                    least = spelled(table, changed)
+                    lists += least is not None
+                    none += least is None
+                    if row is None:
+                        self.assertIsNone(least, (seed, words))
+                    else:
+                        self.assertEqual(least, told_words(tellings_of(table, changed).net.signs, row), (seed, words))
+        self.assertGreater(min(lists, none), 30)
+
+
+def changed_reading(rng, reading):
+    """The same reading with a coming, a value or a word more or less, or with another one."""
+    words = ["", "-", "--", "x", "a", "-x", "1", "-1", "add"]
+    options = {name: [list(values) for values in comings] for name, comings in reading.options.items()}
+    operands = {name: list(row) for name, row in reading.operands.items()}
+    rows = [*options.values(), *operands.values(), *[values for comings in options.values() for values in comings]]
+    if rows:
+        row = rng.choice(rows)
+        is_comings = any(row is comings for comings in options.values())
+        if row and rng.random() < 0.4:
+            row.pop(rng.randrange(len(row)))
+        if rng.random() < 0.6:
+            row.insert(rng.randint(0, len(row)), [] if is_comings else rng.choice(words))
+    told = {name: tuple(tuple(values) for values in comings) for name, comings in options.items()}
+    return Reading(told, {name: tuple(row) for name, row in operands.items()}, reading.command)
 
 
 if __name__ == "__main__":
