@@ -69,6 +69,25 @@ class Spelled(unittest.TestCase):
         self.check(TABLE, told(all=((),), f=("-x",)), "-a", "--", "-x")
         self.check(TABLE, told(many=(("x",),), f=("y",)), "-m", "x", "y")
 
+    def test_words_that_end_options(self):
+        options = [option("a", "a")]
+        for outer, inner, words in [
+            ((), (), None), (("ends",), (), ("-a", "--", "go", "-x")), ((), ("ends",), ("-a", "go", "--", "-x")),
+            (("ends",), ("ends",), ("-a", "--", "go", "-x")), ((), ("dashed",), ("-a", "go", "-x")),
+            (("dashed",), (), None), (("far",), ("ends",), ("-a", "go", "--", "-x")),
+        ]:
+            table = Table(options, [], {"go": Table([option("b", "b")], [operand("g")], None, inner)}, outer)
+            reading = Reading({"a": ((),), "b": ()}, {"g": ("-x",)}, "go")
+            self.assertEqual(spelled(table, reading), words)
+            self.assertEqual(least_spelled(table, reading.key(), 14), words)
+            both = Reading({"a": ((),), "b": ((),)}, {"g": ("-x",)}, "go")
+            self.assertEqual(spelled(table, both), least_spelled(table, both.key(), 16))
+        mixed = Table(options, [operand("f")], None, ("mixed",))
+        self.check_none(mixed, Reading({"a": ((),)}, {"f": ("x", "-x")}, ""))
+        self.check(Table(options, [operand("f")]), Reading({"a": ((),)}, {"f": ("x", "-x")}, ""), "-a", "x", "-x")
+        self.check(Table(options, [operand("f")], None, ("mixed", "ends")), Reading({"a": ((),)}, {"f": ("x", "-x")}, ""),
+                   "-a", "--", "x", "-x")
+
     def test_names_without_letters(self):
         table = Table([option("add"), option("adder", "", ("maybe", ANY))], [], None, ("abbreviated",))
         self.check(table, Reading({"add": ((),), "adder": ()}, {}, ""), "--add")
