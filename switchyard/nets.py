@@ -192,7 +192,8 @@ def _one_mark(marks):
 def _led_to(space, states):
     """The new states to which each sign leads from some states, by ascending signs.
 
-    Which of them are new is asked in this order, too, as it depends on what was found before.
+    Which of them are new is asked in this order, too, as it depends on what was found before; by
+    one sign the lesser states stand first.
     """
     found = {}
     for state in states:
@@ -203,7 +204,7 @@ def _led_to(space, states):
                 found[sign] = [later]
     led = []
     for sign in sorted(found):
-        new = [state for state in found[sign] if space.is_new(state)]
+        new = [state for state in sorted(found[sign]) if space.is_new(state)]
         if len(new) > 0:
             led.append((sign, new))
     return led

@@ -241,13 +241,20 @@ def holds(condition, came):
     return not (one and other)
 
 
+def stands_in_condition(table, name):
+    """Whether a condition of a table names this option."""
+    for condition in table.conditions:
+        if name in condition[1:] or (condition[0] == "some" and name in condition[1]):
+            return True
+    return False
+
+
 def _limit(table, option):
     """Up to which number it matters how often an option came."""
     if option.high is not None:
         return option.high
-    for condition in table.conditions:
-        if option.name in condition[1:] or (condition[0] == "some" and option.name in condition[1]):
-            return max(option.low, 1)
+    if stands_in_condition(table, option.name):
+        return max(option.low, 1)
     return option.low
 
 

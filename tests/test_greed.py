@@ -3,8 +3,9 @@
 import unittest
 
 from switchyard.errors import TooLarge
-from switchyard.greed import is_read_greedily, judge_greedy
-from switchyard.machines import measures
+from switchyard.greed import Refusals, is_read_greedily, judge_greedy
+from switchyard.machines import alphabet, measures
+from switchyard.nets import Net, least_row, told_words
 from switchyard.reader import read
 from switchyard.readings import readings
 from switchyard.tables import Operand, Option, Table
@@ -119,6 +120,47 @@ class Greedy(unittest.TestCase):
                 late += 1
                 self.assertIsNone(least_refused(table, 3), seed)
         self.assertGreater(min(greedy, refused, late), 2)
+
+
+class AllStates(Refusals):
+    """Refusals that leave out no state."""
+
+    def __init__(self, net):
+        super().__init__(net)
+        self.seen = set()
+
+    def is_new(self, state):
+        is_new = state not in self.seen
+        self.seen.add(state)
+        return is_new
+
+
+class LeftOut(unittest.TestCase):
+    def test_what_is_left_out_is_not_needed(self):
+        found = 0
+        for seed, table in tables(400, 700):
+            if measures(table)[0] <= 120:
+                net = Net(table, alphabet([table], ""), True)
+                row = least_row(AllStates(net), None)
+                words = None if row is None else told_words(net.signs, row)
+                self.assertEqual(judge_greedy(table), words, seed)
+                found += words is not None and length_of(words) > 4
+        self.assertGreater(found, 20)
+
+    def test_counts_that_matter(self):
+        guessed = ("guessed",)
+        low = [option("ab", "", NOTHING, 0, 2), option("ac", "", NOTHING, 2, 2)]
+        self.check(Table(low, [], None, guessed), "--a", "--a")
+        high = [option("ab", "", NOTHING, 2, 2), option("ac", "", NOTHING, 0, 1)]
+        self.check(Table(high, [], None, guessed), "--a", "--a", "--ab")
+        some = [option("ab"), option("ac"), option("b", "b")]
+        self.check(Table(some, [], None, guessed, [("some", ("ac",))]), "--a")
+        self.check(Table(some, [], None, guessed, [("without", "ab", "b"), ("some", ("b",))]), "-b", "--a")
+
+    def check(self, table, *words):
+        self.assertEqual(judge_greedy(table), words)
+        if length_of(words) < 9:
+            self.assertEqual(least_refused(table, length_of(words)), words)
 
 
 class ReadGreedily(unittest.TestCase):
