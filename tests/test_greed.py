@@ -155,7 +155,7 @@ class LeftOut(unittest.TestCase):
         self.check(Table(high, [], None, guessed), "--a", "--a", "--ab")
         some = [option("ab"), option("ac"), option("b", "b")]
         self.check(Table(some, [], None, guessed, [("some", ("ac",))]), "--a")
-        self.check(Table(some, [], None, guessed, [("without", "ab", "b"), ("some", ("b",))]), "-b", "--a")
+        self.check(Table(some, [], None, guessed, [("without", "ab", "b"), ("some", ("b",))]), "--a", "-b")
 
     def check(self, table, *words):
         self.assertEqual(judge_greedy(table), words)
