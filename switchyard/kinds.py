@@ -72,6 +72,29 @@ def is_of(kind, word):
     return word in [str(number) for number in range(kind[1], kind[2] + 1)]
 
 
+def are_of(kind, words):
+    """Whether all words are of a type."""
+    return all([is_of(kind, word) for word in words])
+
+
+def are_as_many(low, high, row):
+    """Whether a row is as long as these bounds say; None is without end."""
+    return low <= len(row) and (high is None or len(row) <= high)
+
+
+def may_have(takes, values):
+    """Whether an option that takes this may have these values in one coming."""
+    if takes[0] == "nothing":
+        return values == ()
+    if takes[0] == "one":
+        few, many = 1, 1
+    elif takes[0] == "maybe":
+        few, many = 0, 1
+    else:
+        few, many = takes[2], takes[3]
+    return are_as_many(few, many, values) and are_of(takes[1], values)
+
+
 def checked_words(words):
     """A list of words, as a tuple."""
     if not is_row(words):

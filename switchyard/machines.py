@@ -229,6 +229,17 @@ def check_measures(table):
 
 def alphabet(tables, further):
     """END, then, ascending, the signs by which lists are told apart by these tables."""
+    signs = _signs_of(tables, further)
+    return (END, *sorted([*signs, *_first_foreign(signs)]))
+
+
+def foreign_signs(tables, further):
+    """The two signs of an alphabet that stand for all that are none of it; none if two lack."""
+    return _first_foreign(_signs_of(tables, further))
+
+
+def _signs_of(tables, further):
+    """The signs of an alphabet but for the foreign ones, as a dict."""
     signs = {"-": True, "=": True}
     for table in tables:
         for part in [table, *list(table.commands.values())]:
@@ -237,10 +248,14 @@ def alphabet(tables, further):
         for name in table.commands:
             signs.update({sign: True for sign in name})
     signs.update({sign: True for sign in further})
-    foreign = [sign for sign in CAPITALS if sign not in signs][:2]
-    if len(foreign) == 2:
-        signs.update({sign: True for sign in foreign})
-    return (END, *sorted(signs))
+    return signs
+
+
+def _first_foreign(signs):
+    foreign = [sign for sign in CAPITALS if sign not in signs]
+    if len(foreign) < 2:
+        return ()
+    return (foreign[0], foreign[1])
 
 
 def _texts_in(table):

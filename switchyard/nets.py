@@ -3,6 +3,7 @@
 Signs are told by their numbers in the alphabet, in which END is the first one.
 """
 
+from switchyard.groups import grouped
 from switchyard.machines import FIRST_PLACE, Machine
 
 
@@ -26,6 +27,9 @@ class Net:
         self.ends = []
         self.led = []
         self.led_on = []
+        self.earlier = None
+        self.groups = {}
+        self.live_groups = {}
         self._number(FIRST_PLACE)
 
     def moves(self, number):
@@ -37,8 +41,36 @@ class Net:
     def live_moves(self, number):
         """The moves to places from which some row leads to an end."""
         if len(self.led_on) == 0:
-            self._find_live_moves()
+            before = self.befores()
+            self.led_on = live_moves_among(self.led, before, self.ends)
         return self.led_on[number]
+
+    def grouped_moves(self, number):
+        """The moves from a place as `switchyard.groups` has them."""
+        if number not in self.groups:
+            self.groups[number] = grouped(self.moves(number), self.signs)
+        return self.groups[number]
+
+    def grouped_live_moves(self, number):
+        """The moves to places from which some row leads to an end, as `switchyard.groups` has them."""
+        if number not in self.live_groups:
+            self.live_groups[number] = grouped(self.live_moves(number), self.signs)
+        return self.live_groups[number]
+
+    def all_places(self):
+        """All places to which rows lead, by their numbers; fewer may be numbered before."""
+        at = 0
+        while at < len(self.places):
+            self.moves(at)
+            at += 1
+        return self.places
+
+    def befores(self):
+        """From which places a move leads to each place."""
+        if self.earlier is None:
+            self.all_places()
+            self.earlier = earlier_by(self.led)
+        return self.earlier
 
     def _number(self, place):
         number = self.numbers.get(place, -1)
@@ -65,26 +97,14 @@ class Net:
         what, name, text = place[6]
         return (*place[:6], (what, name, self.alike[name][text]))
 
-    def _find_live_moves(self):
-        before = self._backwards()
-        live = live_among(before, [number for number, is_end in enumerate(self.ends) if is_end])
-        for moves in self.led:
-            kept = {}
-            for sign, found in moves.items():
-                good = [move for move in found if move[0] in live]
-                if len(good) > 0:
-                    kept[sign] = good
-            self.led_on.append(kept)
 
-    def _backwards(self):
-        """From which places a move leads to each place; all places are found by this."""
-        before = {}
-        at = 0
-        while at < len(self.places):
-            for behind in {move[0]: True for found in self.moves(at).values() for move in found}:
-                before.setdefault(behind, []).append(at)
-            at += 1
-        return before
+def earlier_by(led):
+    """From which numbers a move leads to each number."""
+    before = {}
+    for at, moves in enumerate(led):
+        for behind in {move[0]: True for found in moves.values() for move in found}:
+            before.setdefault(behind, []).append(at)
+    return before
 
 
 def live_among(before, ends):
@@ -97,6 +117,20 @@ def live_among(before, ends):
                 live[earlier] = True
                 left.append(earlier)
     return live
+
+
+def live_moves_among(led, before, ends):
+    """For each number the moves that some row leads on to an end."""
+    live = live_among(before, [number for number, is_end in enumerate(ends) if is_end])
+    led_on = []
+    for moves in led:
+        kept = {}
+        for sign, found in moves.items():
+            good = [move for move in found if move[0] in live]
+            if len(good) > 0:
+                kept[sign] = good
+        led_on.append(kept)
+    return led_on
 
 
 def least_row(space, most):
@@ -119,10 +153,22 @@ def least_row(space, most):
             for sign, found in _led_to(space, states):
                 trail.append((number, sign))
                 if any([space.is_goal(state) for state in found]):
-                    return _row_of(trail)
+                    return _trailed_row(trail)
                 later.append((len(trail) - 1, found))
         groups = later
     return None
+
+
+def least_row_of_both(space, other):
+    """The least row by which one of two spaces leads from its first state to a goal; None if none does."""
+    row = least_row(space, None)
+    most = None
+    if row is not None:
+        most = len(row)
+    another = least_row(other, most)
+    if row is None or (another is not None and (len(another) < len(row) or another < row)):
+        return another
+    return row
 
 
 def least_row_within(space, most):
@@ -153,6 +199,16 @@ def least_row_within(space, most):
             row.append(sign)
             choices.append(_choices(space, good))
     return None
+
+
+def row_of(signs, words):
+    """The row of the signs of a list, as numbers."""
+    numbers = {sign: number for number, sign in enumerate(signs)}
+    row = []
+    for word in words:
+        row.extend([numbers[sign] for sign in word])
+        row.append(0)
+    return row
 
 
 def told_words(signs, row):
@@ -219,7 +275,7 @@ def _choices(space, states):
     return [(sign, list(found[sign])) for sign in sorted(found, reverse=True)]
 
 
-def _row_of(trail):
+def _trailed_row(trail):
     """The signs that lead to the last group of a trail."""
     row = []
     at = len(trail) - 1

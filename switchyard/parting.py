@@ -3,7 +3,7 @@
 from switchyard.clear import judge_clear
 from switchyard.judgeerrors import NotClear
 from switchyard.machines import alphabet, check_measures
-from switchyard.nets import Net, least_row, told_words
+from switchyard.nets import Net, least_row_of_both, told_words
 from switchyard.readings import Reading, all_readings
 from switchyard.sides import Sets, Sides
 from switchyard.tellings import are_like, are_words, as_tuple, has_reading, is_reading
@@ -58,13 +58,8 @@ def _judged(one, other, both_ways):
             raise NotClear(told)
     signs = alphabet([one, other], "")
     nets = [Net(table, signs, False) for table in [one, other]]
-    row = least_row(Sides(Sets(nets[0]), Sets(nets[1]), both_ways), None)
-    most = None
-    if row is not None:
-        most = len(row)
-    unlike = least_row(Twins(nets[0], nets[1]), most)
-    if unlike is not None and (row is None or len(unlike) < len(row) or unlike < row):
-        row = unlike
+    sides = Sides(Sets(nets[0]), Sets(nets[1]), both_ways)
+    row = least_row_of_both(sides, Twins(nets[0], nets[1]))
     if row is None:
         return None
     words = told_words(signs, row)

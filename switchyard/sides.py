@@ -1,5 +1,7 @@
 """Sets of places to which a row of signs leads, by all ways that may still come to an end."""
 
+from switchyard.groups import OTHER
+
 NONE = 0
 
 
@@ -20,13 +22,14 @@ class Sets:
     def moves(self, number):
         """For each sign by which a set leads on, the set behind it."""
         if number not in self.led:
-            found = {}
-            for place in self.rows[number]:
-                for sign, moves in self.net.live_moves(place).items():
-                    places = found.setdefault(sign, {})
-                    for behind, _ in moves:
-                        places[behind] = True
-            self.led[number] = {sign: self._number(tuple(sorted(places))) for sign, places in found.items()}
+            led = {}
+            groups = [self.net.grouped_live_moves(place) for place in self.rows[number]]
+            for sign in {sign: True for moves in groups for sign in moves}:
+                places = {behind: True for moves in groups for behind, _ in moves.get(sign, moves[OTHER])}
+                led[sign] = self._number(tuple(sorted(places)))
+            others = led.get(OTHER, NONE)
+            behind = {sign: led.get(sign, others) for sign in range(len(self.net.signs))}
+            self.led[number] = {sign: later for sign, later in behind.items() if later != NONE}
         return self.led[number]
 
     def _number(self, row):
@@ -66,8 +69,10 @@ class Sides:
         return is_read and not is_read_by_other
 
     def moves(self, state):
-        """Pairs of a sign and a state."""
+        """Pairs of a sign and a state, each state once, by the least sign that leads to it."""
         ones = self.one.moves(state[0])
         others = self.other.moves(state[1])
-        signs = {**ones, **others}
-        return [(sign, (ones.get(sign, NONE), others.get(sign, NONE))) for sign in signs]
+        found = {}
+        for sign in sorted({**ones, **others}):
+            found.setdefault((ones.get(sign, NONE), others.get(sign, NONE)), sign)
+        return [(sign, later) for later, sign in found.items()]

@@ -1,7 +1,7 @@
 """The least list that has a reading."""
 
 from switchyard.costs import TOO_MANY, Costs
-from switchyard.kinds import is_of
+from switchyard.kinds import are_as_many, are_of, may_have
 from switchyard.machines import CAME, STOP, alphabet, check_measures
 from switchyard.nets import Net, least_row, least_row_within, told_words
 from switchyard.readings import told_reading
@@ -85,38 +85,17 @@ def _fits(table, reading):
     for part in tables_on_the_way(table, reading.command):
         for option in part.options:
             comings = reading.options[option.name]
-            if not _are_as_many(option.low, option.high, comings):
+            if not are_as_many(option.low, option.high, comings):
                 return False
-            if not all([_may_have(option.takes, values) for values in comings]):
+            if not all([may_have(option.takes, values) for values in comings]):
                 return False
         for operand in part.operands:
             words = reading.operands[operand.name]
-            if not _are_as_many(operand.few, operand.many, words) or not _are_of(operand.kind, words):
+            if not are_as_many(operand.few, operand.many, words) or not are_of(operand.kind, words):
                 return False
         if not all([holds(condition, came) for condition in part.conditions]):
             return False
     return True
-
-
-def _may_have(takes, values):
-    """Whether an option that takes this may have these values in one coming."""
-    if takes[0] == "nothing":
-        return values == ()
-    if takes[0] == "one":
-        few, many = 1, 1
-    elif takes[0] == "maybe":
-        few, many = 0, 1
-    else:
-        few, many = takes[2], takes[3]
-    return _are_as_many(few, many, values) and _are_of(takes[1], values)
-
-
-def _are_as_many(low, high, row):
-    return low <= len(row) and (high is None or len(row) <= high)
-
-
-def _are_of(kind, words):
-    return all([is_of(kind, word) for word in words])
 
 
 def _least_row(tellings):

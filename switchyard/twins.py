@@ -1,5 +1,7 @@
 """Two ways by one row of signs: pairs of places, and what the one way has told beyond the other."""
 
+from switchyard.groups import OTHER, moves_by, with_sign
+
 EVEN = 0
 APART = 1
 
@@ -49,6 +51,7 @@ class Twins:
     def __init__(self, one, other):
         self.one = one
         self.other = other
+        self.signs = one.signs
         self.lags = Lags()
         self.kept = {}
 
@@ -70,13 +73,33 @@ class Twins:
     def moves(self, state):
         """Pairs of a sign and a state, each state once, by the least sign that leads to it."""
         place, beside, lag = state
-        others = self.other.live_moves(beside)
+        ones = self.one.grouped_live_moves(place)
+        others = self.other.grouped_live_moves(beside)
+        apart = {**ones, **others}
+        del apart[OTHER]
         found = {}
-        for sign, moves in self.one.live_moves(place).items():
-            for behind, mark in moves:
-                for behind_beside, mark_beside in others.get(sign, ()):
-                    found.setdefault((behind, behind_beside, self.lags.later(lag, mark, mark_beside)), sign)
+        for sign in apart:
+            for move in moves_by(ones, sign, self.signs[sign]):
+                for another in moves_by(others, sign, self.signs[sign]):
+                    _find(found, self._state(lag, move, another), sign)
+        for move in ones[OTHER]:
+            for another in others[OTHER]:
+                for sign in self._needed_signs(lag, move[1], another[1], apart):
+                    text = self.signs[sign]
+                    _find(found, self._state(lag, with_sign(move, text), with_sign(another, text)), sign)
         return [(sign, later) for later, sign in found.items()]
+
+    def _state(self, lag, move, another):
+        """The state behind two moves."""
+        return (move[0], another[0], self.lags.later(lag, move[1], another[1]))
+
+    def _needed_signs(self, lag, mark, another, apart):
+        """The signs that are not set apart, or just the least one if the lag behind all of them is the same."""
+        signs = [sign for sign in range(len(self.signs)) if sign not in apart]
+        tells_sign = OTHER in mark or OTHER in another
+        if lag == APART or (lag == EVEN and mark == another) or not tells_sign:
+            return signs[:1]
+        return signs
 
 
 class Selves:
@@ -124,6 +147,11 @@ class Selves:
     def pairs(self):
         """All pairs that were found, each with its first lag."""
         return {pair: self.twins.lags.rows[kept[0]] for pair, kept in self.twins.kept.items()}
+
+
+def _find(found, state, sign):
+    """Note that a sign leads to a state, if no lesser one does."""
+    found[state] = min(sign, found.get(state, sign))
 
 
 def turned_rows(rows):

@@ -5,6 +5,8 @@ first; between two words it is one place. Behind a word the reader goes on from 
 of the row whose way is a whole word.
 """
 
+from switchyard.groups import OTHER, moves_by
+
 
 class Walks:
     """The walks of the reader in a net, with numbers."""
@@ -13,6 +15,7 @@ class Walks:
         self.net = net
         self.rows = []
         self.numbers = {}
+        self.grouped = {}
         self.led = {}
         self.refused = self._number(())
         self.first = self._number((0,))
@@ -20,38 +23,55 @@ class Walks:
     def moves(self, number):
         """For each sign, ascending, that the reader does not refuse, the walk behind it."""
         if number not in self.led:
-            found = {}
-            for place in self.rows[number]:
-                for sign, moves in self.net.moves(place).items():
-                    found.setdefault(sign, []).extend(self._in_order([behind for behind, _ in moves]))
-            self.led[number] = {sign: self._number(self._needed(found[sign])) for sign in sorted(found)}
+            groups = self.grouped_moves(number)
+            others = groups.get(OTHER, self.refused)
+            behind = {sign: groups.get(sign, others) for sign in range(len(self.net.signs))}
+            self.led[number] = {sign: walk for sign, walk in behind.items() if walk != self.refused}
         return self.led[number]
+
+    def grouped_moves(self, number):
+        """The walks behind some signs, and by OTHER behind all other ones."""
+        if number not in self.grouped:
+            steps = self.steps(number)
+            self.grouped[number] = {sign: self._number(tuple(found)) for sign, found in steps.items()}
+        return self.grouped[number]
+
+    def steps(self, number):
+        """The places of the walk behind some signs, and by OTHER behind all other ones, in its order.
+
+        With each place stands where the one before it stood in this walk, and the mark that was told.
+        """
+        row = self.rows[number]
+        groups = [self.net.grouped_moves(place) for place in row]
+        steps = {}
+        for sign in {sign: True for moves in groups for sign in moves}:
+            found = []
+            for at, moves in enumerate(groups):
+                found.extend([(at, *move) for move in moves_by(moves, sign, self.net.signs[sign])])
+            steps[sign] = self._needed(found)
+        return steps
 
     def is_end(self, number):
         """Whether the reader reads what led here."""
         row = self.rows[number]
         return len(row) == 1 and self.net.ends[row[0]]
 
-    def _in_order(self, row):
-        """Places to which one sign leads from one place, in the order of the reader.
+    def _needed(self, steps):
+        """The first step to each place, in the order of the reader, up to the first one that surely is chosen.
 
         A word that has begun with a dash may be an option before it may be anything else; the
         machine tells all others in this order.
         """
-        parts = [self.net.places[number][6] for number in row]
-        dashes = [number for number, part in zip(row, parts) if part == ("dash", "", "")]
-        others = [number for number, part in zip(row, parts) if part != ("dash", "", "")]
-        return dashes + others
-
-    def _needed(self, row):
-        """The places of a row up to the first one that surely is chosen."""
+        parts = {behind: self.net.places[behind][6] for _, behind, _ in steps}
+        dashes = [step for step in steps if parts[step[1]] == ("dash", "", "")]
+        others = [step for step in steps if parts[step[1]] != ("dash", "", "")]
         needed = {}
-        for number in row:
-            needed[number] = True
-            part = self.net.places[number][6]
-            if part == () or part[2] == ".":
-                return tuple(needed)
-        return tuple(needed)
+        for at, behind, mark in [*dashes, *others]:
+            if behind not in needed:
+                needed[behind] = (at, mark)
+            if parts[behind] == () or parts[behind][2] == ".":
+                return needed
+        return needed
 
     def _number(self, row):
         if row not in self.numbers:

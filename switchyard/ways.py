@@ -243,10 +243,14 @@ def holds(condition, came):
 
 def stands_in_condition(table, name):
     """Whether a condition of a table names this option."""
-    for condition in table.conditions:
-        if name in condition[1:] or (condition[0] == "some" and name in condition[1]):
-            return True
-    return False
+    return any([name in named_by(condition) for condition in table.conditions])
+
+
+def named_by(condition):
+    """The names of the options that a condition names."""
+    if condition[0] == "some":
+        return condition[1]
+    return condition[1:]
 
 
 def _limit(table, option):

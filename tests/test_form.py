@@ -95,7 +95,7 @@ class Form(unittest.TestCase):
                     self.assertIn(node.id, BUILTINS, (name, node.lineno))
 
     def test_no_parts_of_the_language_that_are_barred(self):
-        barred = (ast.GeneratorExp, ast.AsyncFunctionDef, ast.Global, ast.Div, ast.Yield, ast.YieldFrom, ast.Try)
+        barred = (ast.GeneratorExp, ast.AsyncFunctionDef, ast.Global, ast.Div, ast.Yield, ast.YieldFrom)
         for name, tree in trees():
             for node in ast.walk(tree):
                 self.assertNotIsInstance(node, barred, (name, getattr(node, "lineno", 0)))
@@ -103,6 +103,16 @@ class Form(unittest.TestCase):
                     self.assertNotIsInstance(node.value, float, (name, node.lineno))
                     if isinstance(node.value, str):
                         self.assertNotIn("%", node.value, (name, node.lineno))
+
+    def test_only_own_errors_are_caught(self):
+        own = {node.name for name, tree in trees() for node in tree.body
+               if name in ("errors.py", "judgeerrors.py") and isinstance(node, ast.ClassDef)}
+        for name, tree in trees():
+            for node in ast.walk(tree):
+                if isinstance(node, ast.Try):
+                    self.assertEqual((node.orelse, node.finalbody), ([], []), (name, node.lineno))
+                if isinstance(node, ast.ExceptHandler):
+                    self.assertIn(getattr(node.type, "id", ""), own, (name, node.lineno))
 
     def test_no_import_in_a_ring(self):
         needs = {}
