@@ -1,7 +1,7 @@
 """How many lists of a length have a reading."""
 
 from switchyard.errors import BadPart
-from switchyard.groups import OTHER
+from switchyard.groups import OTHER, signs_apart
 from switchyard.kinds import is_integer
 from switchyard.leads import Leads
 from switchyard.machines import alphabet, check_measures
@@ -34,7 +34,7 @@ def _led_on(leads, many, left):
     found = {}
     for places, rows in many.items():
         groups = [leads.net.grouped_moves(place) for place in places]
-        signs = {sign: True for moves in groups for sign in moves}
+        signs = signs_apart(groups)
         for sign in signs:
             led = {behind: True for moves in groups for behind, _ in moves.get(sign, moves[OTHER])}
             later = tuple(sorted([place for place in led if leads.left(place) <= left]))

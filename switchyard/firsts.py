@@ -21,7 +21,8 @@ def first_lists(table, many):
     while len(rows) < many and len(layers[-1]) > 0:
         if 0 in layers[-1]:
             rows.extend(_least_rows(net, layers, many - len(rows)))
-        layers.append({earlier: True for place in layers[-1] for earlier in before.get(place, [])})
+        longer = {earlier: True for place in layers[-1] for earlier in before.get(place, [])}
+        layers.append(longer)
     return tuple([told_words(net.signs, row) for row in rows])
 
 

@@ -3,14 +3,15 @@
 from switchyard.leads import Leads, least_lead
 from switchyard.machines import END, alphabet, check_measures, foreign_signs
 from switchyard.nets import Net, row_of, told_words
+from switchyard.tellings import as_tuple
 
 
 class GoingOn:
     """The signs that may come next, each with the least list; the least list if the word ends; if all may end."""
 
     def __init__(self, signs, word, is_end):
-        self.signs = {sign: signs[sign] for sign in signs}
-        self.word = word
+        self.signs = {sign: as_tuple(signs[sign]) for sign in sorted(signs)}
+        self.word = as_tuple(word)
         self.is_end = is_end
 
     def __eq__(self, other):

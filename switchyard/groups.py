@@ -24,6 +24,11 @@ def grouped(moves, signs):
     return groups
 
 
+def signs_apart(groups):
+    """The signs by which some of several grouped moves lead on otherwise than most, and OTHER, as a dict."""
+    return {sign: True for moves in groups for sign in moves}
+
+
 def moves_by(groups, number, sign):
     """The moves of grouped ones by a sign."""
     if number in groups:

@@ -5,6 +5,7 @@ from switchyard.kinds import checked_words, is_integer
 from switchyard.leads import Leads
 from switchyard.machines import alphabet, check_measures
 from switchyard.nets import Net, row_of, told_words
+from switchyard.tellings import as_tuple
 
 MOST_CHANGES = 9
 MOST_LENGTH = 40
@@ -18,7 +19,7 @@ class Mended:
 
     def __init__(self, number, words):
         self.number = number
-        self.words = words
+        self.words = as_tuple(words)
 
     def __eq__(self, other):
         return isinstance(other, Mended) and self.number == other.number and self.words == other.words

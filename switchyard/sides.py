@@ -1,6 +1,6 @@
 """Sets of places to which a row of signs leads, by all ways that may still come to an end."""
 
-from switchyard.groups import OTHER
+from switchyard.groups import OTHER, signs_apart
 
 NONE = 0
 
@@ -24,7 +24,7 @@ class Sets:
         if number not in self.led:
             led = {}
             groups = [self.net.grouped_live_moves(place) for place in self.rows[number]]
-            for sign in {sign: True for moves in groups for sign in moves}:
+            for sign in signs_apart(groups):
                 places = {behind: True for moves in groups for behind, _ in moves.get(sign, moves[OTHER])}
                 led[sign] = self._number(tuple(sorted(places)))
             others = led.get(OTHER, NONE)

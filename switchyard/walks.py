@@ -5,7 +5,7 @@ first; between two words it is one place. Behind a word the reader goes on from 
 of the row whose way is a whole word.
 """
 
-from switchyard.groups import OTHER, moves_by
+from switchyard.groups import OTHER, moves_by, signs_apart
 
 
 class Walks:
@@ -41,10 +41,9 @@ class Walks:
 
         With each place stands where the one before it stood in this walk, and the mark that was told.
         """
-        row = self.rows[number]
-        groups = [self.net.grouped_moves(place) for place in row]
+        groups = [self.net.grouped_moves(place) for place in self.rows[number]]
         steps = {}
-        for sign in {sign: True for moves in groups for sign in moves}:
+        for sign in signs_apart(groups):
             found = []
             for at, moves in enumerate(groups):
                 found.extend([(at, *move) for move in moves_by(moves, sign, self.net.signs[sign])])

@@ -178,3 +178,151 @@ def is_clear_paper(table, lags, dead):
             if later in live and led_lag(lag, told, is_turned) != lags[later]:
                 return False
     return True
+
+
+def row_of(words):
+    return tuple(sign for word in words for sign in [*word, ""])
+
+
+def rows_behind(table, signs, row, most):
+    """All rows of at most so many further signs that the machine goes on with, by [20]'s order, and their places."""
+    oracle = Oracle(table)
+    level = [((), {FIRST})]
+    for sign in row:
+        level = [((), {behind for place in level[0][1] for behind, _ in oracle.moves(place, sign)})]
+    for length in range(most + 1):
+        later = []
+        for told, places in level:
+            yield told, [place for place in places if oracle.is_end(place)]
+            if length < most:
+                for sign in signs:
+                    led = {behind for place in places for behind, _ in oracle.moves(place, sign)}
+                    if led:
+                        later.append(((*told, sign), led))
+        level = later
+
+
+def lists_read(table, signs, most):
+    """The rows of all lists up to a length that have a reading, by [20]'s order."""
+    return [row for row, ends in rows_behind(table, signs, (), most) if ends]
+
+
+def least_behind(table, signs, row, most):
+    """For each next sign the least list that begins with a row and it, with at most so many further signs."""
+    least = {}
+    for told, ends in rows_behind(table, signs, row, most):
+        if told and ends:
+            least.setdefault(told[0], words_of((*row, *told)))
+    return least
+
+
+def least_uses(table, most):
+    """For each part that is used in a list up to a length the least one."""
+    oracle = Oracle(table)
+    groups = {one.name for part in [table, *table.commands.values()] for one in part.operands}
+    level, used = [((), {(FIRST, frozenset())})], {}
+    for length in range(most + 1):
+        later = []
+        for row, found in level:
+            for place, parts in found:
+                if oracle.is_end(place):
+                    for part in parts:
+                        used.setdefault(part, words_of(row))
+            for sign in alphabet([table], "") if length < most else ():
+                led = {(behind, parts | parts_told(behind, marks, groups)) for place, parts in found
+                       for behind, marks in oracle.moves(place, sign)}
+                if led:
+                    later.append(((*row, sign), led))
+        level = later
+    return used
+
+
+def parts_told(behind, marks, groups):
+    parts = set()
+    for tape, mark in marks:
+        if mark == CAME:
+            parts.add(("option", tape))
+            if behind[6][0:1] == ("letter",):
+                parts.add(("letter", tape))
+        elif tape == "" and mark == STOP:
+            parts.add(("command", behind[0]))
+        elif tape in groups:
+            parts.add(("operand", tape))
+    return frozenset(parts)
+
+
+def meant_texts(table):
+    """All pairs of a text behind two dashes and an option as which some list that has a reading has it, by the machine."""
+    machine, signs = Machine(table), alphabet([table], "")
+    found, left = {FIRST_PLACE: []}, [FIRST_PLACE]
+    while left:
+        place = left.pop()
+        for sign in signs:
+            for behind, marks in machine.moves(place, sign):
+                found[place].append((behind, marks))
+                if behind not in found:
+                    found[behind] = []
+                    left.append(behind)
+    live, grown = {place for place in found if machine.is_end(place)}, True
+    while grown:
+        more = {place for place in found if place not in live and any(behind in live for behind, _ in found[place])}
+        grown = bool(more)
+        live |= more
+    return {(place[6][2], marks[0][0]) for place in found if place[6][0:1] == ("long",)
+            for behind, marks in found[place] if marks and behind in live}
+
+
+def sure_texts(table):
+    """What [33] tells, by all pairs of texts and options."""
+    pairs, told = meant_texts(table), {}
+    for part in [table, *table.commands.values()]:
+        for option in part.options:
+            texts = [option.name[:many + 1] for many in range(len(option.name))]
+            sure = [text for text in texts if {name for other, name in pairs if other == text} == {option.name}]
+            told[option.name] = sure[0] if sure else None
+    return told
+
+
+def least_readers_parted(one, other, most, both_ways):
+    """The least list that two readers don't read alike, with the keys of what they read."""
+    oracles = [Oracle(one), Oracle(other)]
+    for words, _ in all_lists([one, other], most):
+        keys = [None if isinstance(told, int) else told for told in [oracle.read(words) for oracle in oracles]]
+        if keys[0] is not None or (both_ways and keys[1] is not None):
+            if None in keys or like(keys[0]) != like(keys[1]):
+                return words, *keys
+    return None
+
+
+def kinds_told(table, words):
+    """What [37] tells of words, by all ways to read each of them."""
+    oracle = Oracle(table)
+    found = {(FIRST, ())}
+    for word in words:
+        found = {(places[-1], (*kinds, kind_of(table, word, places, marks))) for place, kinds in found
+                 for places, marks in oracle.words_ways(place, word)}
+    kept = {kinds for place, kinds in found if oracle.is_end(place)}
+    return tuple(tuple(sorted({kinds[at] for kinds in kept})) for at in range(len(words)))
+
+
+def kind_of(table, word, places, marks):
+    names = tuple(tape for tape, mark in marks if mark == CAME)
+    if names:
+        return ("options", names)
+    if word == "--" and places[1][6][0] == "dash":
+        return ("ends", ())
+    tape = marks[-1][0]
+    if tape == "":
+        return ("command", (word,))
+    return ("value" if table.option(tape) else "operand", (tape,))
+
+
+def changes_between(row, other):
+    """The least number of changes that lead from one row to another one."""
+    costs = list(range(len(other) + 1))
+    for at, sign in enumerate(row, start=1):
+        later = [at]
+        for number, mark in enumerate(other, start=1):
+            later.append(min(costs[number] + 1, later[-1] + 1, costs[number - 1] + (sign != mark)))
+        costs = later
+    return costs[-1]

@@ -3,6 +3,7 @@
 from random import Random
 
 from switchyard.errors import BadPart
+from switchyard.machines import measures
 from switchyard.tables import Operand, Option, Table
 
 KINDS = [("any",), ("any",), ("chosen", "a", "add", "b"), ("number", -3, 12)]
@@ -88,3 +89,44 @@ def tables(first, behind):
             yield seed, sample_table(seed)
         except BadPart as told:
             raise AssertionError(f"sample {seed}: {told.part}") from told
+
+
+SMALL_KINDS = [("any",), ("any",), ("chosen", "a"), ("chosen", "a", "ab", "b"), ("chosen", "b")]
+
+
+def small_part(rng, names, letters, groups, most, commands):
+    options = []
+    for _ in range(rng.randint(0, most)):
+        low, high = some_bounds(rng)
+        letter = letters.pop() if letters and rng.random() < 0.8 else ""
+        what = rng.choice(["nothing", "one", "maybe", "some", "some"])
+        takes = {"nothing": ("nothing",), "some": ("some", rng.choice(SMALL_KINDS), *some_bounds(rng))}
+        takes = takes.get(what, (what, rng.choice(SMALL_KINDS)))
+        options.append(Option(names.pop(), letter, takes, min(low, rng.choice([0, 0, 1])), high))
+    many = rng.choice([0, 0, 1, 1, 2])
+    operands = [Operand(groups.pop(), rng.choice(SMALL_KINDS), *some_bounds(rng)) for _ in range(many)]
+    traits = [trait for trait in ["dashed", "ends", "mixed"] if rng.random() < 0.4]
+    traits += rng.choice([[], ["abbreviated"], ["guessed"]])
+    if commands:
+        traits += [trait for trait in ["alone", "far"] if rng.random() < 0.5]
+    return Table(options, operands, commands, traits, some_conditions(rng, [option.name for option in options]))
+
+
+def small_table(seed):
+    """A table of few signs, by a number, so that all lists up to some length can be tried."""
+    rng = Random(seed)
+    names, letters, groups = ["a", "ab", "b", "ba"], ["a", "b"], ["f", "g", "h", "k"]
+    rng.shuffle(names)
+    rng.shuffle(letters)
+    commands = {}
+    if rng.random() < 0.4:
+        commands[rng.choice(["a", "ab"])] = small_part(rng, names, letters, groups, 1, {})
+    return small_part(rng, names, letters, groups, 3, commands)
+
+
+def small_tables(first, behind):
+    """Some tables of few signs within the measures, each with its number."""
+    for seed in range(first, behind):
+        table = small_table(seed)
+        if measures(table)[0] <= 120:
+            yield seed, table

@@ -81,6 +81,46 @@ JUDGES = """
 ('--v',)
 """
 
+MENDING = """
+>>> from switchyard.counting import count_lists
+>>> from switchyard.mending import mend
+>>> from switchyard.tables import Operand, Option, Table
+>>> table = Table([Option("force", "f", ("nothing",), 0, 1)], [Operand("to", ("chosen", "a", "b"))])
+>>> told = mend(table, ["--fore", "c"], 9)
+>>> told.number, told.words, count_lists(table, 5)
+(2, ('--force', 'a'), (0, 0, 2, 0, 0, 2))
+"""
+
+READERS = """
+>>> from switchyard.readers import judge_readers
+>>> from switchyard.tables import Operand, Option, Table
+>>> file, rest = Operand("file", ("any",), 1, 1), Operand("rest", ("any",), 0, None)
+>>> old, new = Table([Option("all", "a", ("nothing",))], [file, rest]), Table([Option("all", "a", ("maybe", ("any",)))], [file, rest])
+>>> told = judge_readers(old, new)
+>>> told.words, told.other.options["all"]
+(('-aa', ''), (('a',),))
+"""
+
+MARKING = """
+>>> from switchyard.marking import first_wrong, kinds_in
+>>> from switchyard.tables import Operand, Option, Table
+>>> table = Table([Option("out", "o", ("maybe", ("any",))), Option("all", "a", ("nothing",))], [Operand("file", ("any",))])
+>>> kinds_in(table, ["-oa", "x"])
+((('options', ('out',)), ('options', ('out', 'all'))), (('operand', ('file',)),))
+>>> first_wrong(table, ["-a", "--alle", "x"]), first_wrong(table, ["-a"])
+(1, None)
+"""
+
+SETTINGS = r"""
+>>> from switchyard.firsts import first_lists
+>>> from switchyard.settings import read_settings, write_settings
+>>> from switchyard.tables import Option, Table
+>>> table = Table([Option("force", "f", ("nothing",)), Option("to", "", ("some", ("any",), 0, None))])
+>>> told = read_settings(table, "# mine\nto = 'my home' b\nforce\nto=")
+>>> told, write_settings(table, told), first_lists(table, 3)
+({'force': ((),), 'to': (('my home', 'b'), ())}, "force\nto = 'my home' b\nto =\n", ((), ('-f',), ('-ff',)))
+"""
+
 
 class Examples(unittest.TestCase):
     def check(self, text):
@@ -110,6 +150,18 @@ class Examples(unittest.TestCase):
 
     def test_judges(self):
         self.check(JUDGES)
+
+    def test_mending_and_counting(self):
+        self.check(MENDING)
+
+    def test_readers(self):
+        self.check(READERS)
+
+    def test_marking(self):
+        self.check(MARKING)
+
+    def test_settings_and_first_lists(self):
+        self.check(SETTINGS)
 
     def test_the_table_of_the_introduction_is_not_clear(self):
         some = Option("add", "a", ("some", ("any",), 1, None), 0, 1)
