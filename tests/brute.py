@@ -272,9 +272,31 @@ def meant_texts(table):
             for behind, marks in found[place] if marks and behind in live}
 
 
-def sure_texts(table):
+def texts_in_lists(table, most):
+    """As meant_texts, by all lists up to a length."""
+    oracle, told = Oracle(table), set()
+    level = [((), {(FIRST, frozenset())})]
+    for length in range(most + 1):
+        later = []
+        for row, found in level:
+            for place, pairs in found:
+                if oracle.is_end(place):
+                    told |= pairs
+            for sign in alphabet([table], "") if length < most else ():
+                led = set()
+                for place, pairs in found:
+                    for behind, marks in oracle.moves(place, sign):
+                        is_long = place[6][0:1] == ("long",) and marks
+                        led.add((behind, pairs | {(place[6][2], marks[0][0])} if is_long else pairs))
+                if led:
+                    later.append(((*row, sign), led))
+        level = later
+    return told
+
+
+def sure_texts(table, pairs=None):
     """What [33] tells, by all pairs of texts and options."""
-    pairs, told = meant_texts(table), {}
+    pairs, told = meant_texts(table) if pairs is None else pairs, {}
     for part in [table, *table.commands.values()]:
         for option in part.options:
             texts = [option.name[:many + 1] for many in range(len(option.name))]

@@ -10,7 +10,7 @@ from switchyard.parting import Parted, judge_extends
 from switchyard.readings import all_readings
 from switchyard.tables import Operand, Option, Table
 from switchyard.usage import judge_free, needless, sure_beginnings, used_by
-from tests.brute import least_parted, least_uses, length_of, sure_texts
+from tests.brute import least_parted, least_uses, length_of, meant_texts, sure_texts, texts_in_lists
 from tests.samples import small_tables, tables
 
 ANY = ("any",)
@@ -201,6 +201,28 @@ class Sure(unittest.TestCase):
         for seed, table in [*tables(0, 60), *small_tables(100, 200)]:
             if measures(table)[0] <= 120:
                 self.assertEqual(sure_beginnings(table), sure_texts(table), seed)
+
+    def test_all_lists_up_to_some_length(self):
+        for options, commands, traits in [
+            ([option("a"), option("ab")], {}, ()), ([option("a"), option("ab")], {}, ("abbreviated",)),
+            ([option("ab"), option("ac")], {}, ("guessed",)), ([option("ab"), option("ac")], {}, ("abbreviated", "ends")),
+            ([option("ab", "", ("maybe", ("chosen", "b"))), option("ba")], {}, ("guessed", "dashed", "mixed")),
+            ([option("a"), option("ab", "", NOTHING, 0, 1)], {"c": Table([option("b")])}, ("abbreviated", "alone", "far")),
+            ([option("b")], {"c": Table([option("ba")], [], None, ("abbreviated",))}, ("alone",)),
+            ([option("b")], {"c": Table([option("ba")], [], None, ("guessed",))}, ("alone", "far")),
+        ]:
+            table = Table(options, [], commands, traits)
+            self.assertEqual(sure_beginnings(table), sure_texts(table, texts_in_lists(table, 7 if commands else 6)))
+
+    def test_lists_of_samples(self):
+        whole = 0
+        for seed, table in small_tables(0, 100):
+            pairs = texts_in_lists(table, 5)
+            self.assertLessEqual(pairs, meant_texts(table), seed)
+            if pairs == meant_texts(table):
+                whole += bool(pairs)
+                self.assertEqual(sure_beginnings(table), sure_texts(table, pairs), seed)
+        self.assertGreater(whole, 10)
 
 
 class Free(unittest.TestCase):
